@@ -4,6 +4,7 @@ import (
 	"lorgnette/api"
 	"lorgnette/fold"
 	"lorgnette/kind"
+	"lorgnette/part"
 	"lorgnette/wide"
 )
 
@@ -26,9 +27,9 @@ func (b *Binder) Const(at, node int) (api.Konst, int, api.Fault) {
 	case api.Name, api.Select:
 		return b.namedConst(at, node)
 	case api.Paren:
-		return b.Const(at, kid(n, 0))
+		return b.Const(at, part.Kid(n, 0))
 	case api.Unary:
-		a, typ, bad := b.Const(at, kid(n, 0))
+		a, typ, bad := b.Const(at, part.Kid(n, 0))
 		if bad.Err != api.OK {
 			return api.Konst{}, 0, bad
 		}
@@ -76,11 +77,11 @@ func isOrder(op string) bool {
 }
 
 func (b *Binder) binary(at int, n api.Node) (api.Konst, int, api.Fault) {
-	x, left, bad := b.Const(at, kid(n, 0))
+	x, left, bad := b.Const(at, part.Kid(n, 0))
 	if bad.Err != api.OK {
 		return api.Konst{}, 0, bad
 	}
-	y, right, bad := b.Const(at, kid(n, 1))
+	y, right, bad := b.Const(at, part.Kid(n, 1))
 	if bad.Err != api.OK {
 		return api.Konst{}, 0, bad
 	}
@@ -100,8 +101,8 @@ func (b *Binder) binary(at int, n api.Node) (api.Konst, int, api.Fault) {
 
 // conversion is the constant of a call of a type.
 func (b *Binder) conversion(at int, n api.Node) (api.Konst, int, api.Fault) {
-	typ, bad := b.Type(at, kid(n, 0))
-	args := b.kids(kid(n, 1))
+	typ, bad := b.Type(at, part.Kid(n, 0))
+	args := b.kids(part.Kid(n, 1))
 	if bad.Err == api.ErrType || bad.Err == api.OK && len(args) != 1 {
 		return noConst(api.ErrType, n.At)
 	}
@@ -138,14 +139,14 @@ func (b *Binder) Declared(at, node, number int) (api.Konst, int, api.Fault) {
 		return api.Konst{}, 0, api.Fault{Err: api.ErrNil}
 	}
 	n := b.node(node)
-	names, values := b.kids(kid(n, 0)), b.kids(kid(n, 2))
+	names, values := b.kids(part.Kid(n, 0)), b.kids(part.Kid(n, 2))
 	if n.Kind != api.Const || len(names) != len(values) || number < 0 || number >= len(values) {
 		return noConst(api.ErrType, n.At)
 	}
-	if kid(n, 1) == 0 {
+	if part.Kid(n, 1) == 0 {
 		return b.Const(at, values[number])
 	}
-	told, bad := b.Type(at, kid(n, 1))
+	told, bad := b.Type(at, part.Kid(n, 1))
 	if bad.Err != api.OK {
 		return api.Konst{}, 0, bad
 	}

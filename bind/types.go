@@ -6,6 +6,7 @@ import (
 	"strings"
 
 	"lorgnette/api"
+	"lorgnette/part"
 	"lorgnette/wide"
 )
 
@@ -21,7 +22,7 @@ func (b *Binder) Type(at, node int) (int, api.Fault) {
 	case api.Index:
 		return b.instanceType(at, n)
 	case api.Paren:
-		return b.Type(at, kid(n, 0))
+		return b.Type(at, part.Kid(n, 0))
 	case api.Pointer:
 		return b.typeOf(at, n, api.PointerType)
 	case api.Slice:
@@ -64,7 +65,7 @@ func (b *Binder) made(n api.Node, x api.Type) (int, api.Fault) {
 }
 
 func (b *Binder) typeOf(at int, n api.Node, k int) (int, api.Fault) {
-	elem, bad := b.Type(at, kid(n, 0))
+	elem, bad := b.Type(at, part.Kid(n, 0))
 	if bad.Err != api.OK {
 		return 0, bad
 	}
@@ -76,7 +77,7 @@ func (b *Binder) array(at int, n api.Node) (int, api.Fault) {
 	if bad.Err != api.OK {
 		return 0, bad
 	}
-	elem, bad := b.Type(at, kid(n, 1))
+	elem, bad := b.Type(at, part.Kid(n, 1))
 	if bad.Err != api.OK {
 		return 0, bad
 	}
@@ -85,7 +86,7 @@ func (b *Binder) array(at int, n api.Node) (int, api.Fault) {
 
 // length is an array's: what is no constant at all is no length either.
 func (b *Binder) length(at int, n api.Node) (int, api.Fault) {
-	k, _, bad := b.Const(at, kid(n, 0))
+	k, _, bad := b.Const(at, part.Kid(n, 0))
 	if bad.Err != api.OK && bad.Err != api.ErrType {
 		return 0, bad
 	}
@@ -100,7 +101,7 @@ func (b *Binder) length(at int, n api.Node) (int, api.Fault) {
 func (b *Binder) fieldTypes(at, list int) ([]int, api.Fault) {
 	var types []int
 	for _, i := range b.kids(list) {
-		typ, bad := b.Type(at, kid(b.node(i), 0))
+		typ, bad := b.Type(at, part.Kid(b.node(i), 0))
 		if bad.Err != api.OK {
 			return nil, bad
 		}
@@ -110,12 +111,12 @@ func (b *Binder) fieldTypes(at, list int) ([]int, api.Fault) {
 }
 
 func (b *Binder) structure(at int, n api.Node) (int, api.Fault) {
-	types, bad := b.fieldTypes(at, kid(n, 0))
+	types, bad := b.fieldTypes(at, part.Kid(n, 0))
 	if bad.Err != api.OK {
 		return 0, bad
 	}
 	var names []string
-	for _, i := range b.kids(kid(n, 0)) {
+	for _, i := range b.kids(part.Kid(n, 0)) {
 		name := b.node(i).Text
 		if name != "_" && slices.Contains(names, name) {
 			return 0, fault(api.ErrTwice, n.At)
@@ -126,11 +127,11 @@ func (b *Binder) structure(at int, n api.Node) (int, api.Fault) {
 }
 
 func (b *Binder) funcType(at int, n api.Node) (int, api.Fault) {
-	types, bad := b.fieldTypes(at, kid(n, 0))
+	types, bad := b.fieldTypes(at, part.Kid(n, 0))
 	if bad.Err != api.OK {
 		return 0, bad
 	}
-	results, bad := b.fieldTypes(at, kid(n, 1))
+	results, bad := b.fieldTypes(at, part.Kid(n, 1))
 	if bad.Err != api.OK {
 		return 0, bad
 	}
@@ -138,7 +139,7 @@ func (b *Binder) funcType(at int, n api.Node) (int, api.Fault) {
 }
 
 func (b *Binder) instanceType(at int, n api.Node) (int, api.Fault) {
-	i, bad := b.object(at, kid(n, 0))
+	i, bad := b.object(at, part.Kid(n, 0))
 	if bad.Err != api.OK {
 		return 0, bad
 	}
@@ -147,7 +148,7 @@ func (b *Binder) instanceType(at int, n api.Node) (int, api.Fault) {
 		return 0, fault(api.ErrType, n.At)
 	}
 	var args []int
-	for _, k := range b.kids(kid(n, 1)) {
+	for _, k := range b.kids(part.Kid(n, 1)) {
 		typ, bad := b.Type(at, k)
 		if bad.Err != api.OK {
 			return 0, bad
@@ -168,9 +169,9 @@ func (b *Binder) Instance(i int, args []int, at api.Pos) (int, api.Fault) {
 		return 0, fault(api.ErrType, at)
 	}
 	n := b.node(where.node)
-	params := kid(n, 0)
+	params := part.Kid(n, 0)
 	if n.Kind == api.Func {
-		params = kid(n, 1)
+		params = part.Kid(n, 1)
 	}
 	if e := b.holds(where.scope, b.kids(params), args); e != api.OK {
 		return 0, fault(e, at)
@@ -215,7 +216,7 @@ func (b *Binder) holds(at int, params, args []int) api.Errno {
 		if k := b.types.At(typ).Kind; k == api.BadType || k == api.TupleType || typ >= api.NilType && typ <= api.UntypedText {
 			return api.ErrType
 		}
-		i, _, ok := b.suite.Scopes.Find(at, b.node(kid(b.node(params[place]), 0)).Text)
+		i, _, ok := b.suite.Scopes.Find(at, b.node(part.Kid(b.node(params[place]), 0)).Text)
 		if !ok {
 			return api.ErrName
 		}
@@ -244,7 +245,7 @@ func (b *Binder) paramScope(outer int, params, args []int) (int, api.Errno) {
 
 func (b *Binder) newFunc(key row, where place, inner int, args []int) (int, api.Fault) {
 	n := b.node(where.node)
-	typ, bad := b.Type(inner, kid(n, 2))
+	typ, bad := b.Type(inner, part.Kid(n, 2))
 	if bad.Err != api.OK {
 		return 0, bad
 	}

@@ -3,6 +3,7 @@ package rate
 import (
 	"lorgnette/api"
 	"lorgnette/kind"
+	"lorgnette/part"
 )
 
 func isOrder(op string) bool { return op == "<" || op == "<=" || op == ">" || op == ">=" }
@@ -40,11 +41,11 @@ func (m *Maker) binary(node int, n api.Node) (Operand, api.Fault) {
 	if op == "&&" || op == "||" {
 		return m.logical(node, n)
 	}
-	x, bad := m.reckon(kid(n, 0))
+	x, bad := m.reckon(part.Kid(n, 0))
 	if bad.Err != api.OK {
 		return Operand{}, bad
 	}
-	y, bad := m.reckon(kid(n, 1))
+	y, bad := m.reckon(part.Kid(n, 1))
 	if bad.Err != api.OK {
 		return Operand{}, bad
 	}
@@ -55,11 +56,11 @@ func (m *Maker) binary(node int, n api.Node) (Operand, api.Fault) {
 	if y.Mode == Const && (op == "/" || op == "%") && y.Const.W == (api.Wide{}) {
 		return m.fail(api.ErrConst, node)
 	}
-	left, _, bad := m.Load(x, typ, kid(n, 0))
+	left, _, bad := m.Load(x, typ, part.Kid(n, 0))
 	if bad.Err != api.OK {
 		return Operand{}, bad
 	}
-	right, _, bad := m.Load(y, typ, kid(n, 1))
+	right, _, bad := m.Load(y, typ, part.Kid(n, 1))
 	if bad.Err != api.OK {
 		return Operand{}, bad
 	}
@@ -73,11 +74,11 @@ func (m *Maker) binary(node int, n api.Node) (Operand, api.Fault) {
 
 // logical reckons the second operand only if the first one doesn't decide.
 func (m *Maker) logical(node int, n api.Node) (Operand, api.Fault) {
-	x, bad := m.reckon(kid(n, 0))
+	x, bad := m.reckon(part.Kid(n, 0))
 	if bad.Err != api.OK {
 		return Operand{}, bad
 	}
-	left, _, bad := m.Load(x, 0, kid(n, 0))
+	left, _, bad := m.Load(x, 0, part.Kid(n, 0))
 	if bad.Err != api.OK {
 		return Operand{}, bad
 	}
@@ -92,7 +93,7 @@ func (m *Maker) logical(node int, n api.Node) (Operand, api.Fault) {
 		m.put(api.Ins{Op: api.OpJump, To: end}, node)
 		m.Code.Mark(more)
 	}
-	y, bad := m.reckon(kid(n, 1))
+	y, bad := m.reckon(part.Kid(n, 1))
 	if bad.Err != api.OK {
 		return Operand{}, bad
 	}
@@ -100,7 +101,7 @@ func (m *Maker) logical(node int, n api.Node) (Operand, api.Fault) {
 	if !ok || m.under(typ).Kind != api.BoolType {
 		return m.fail(api.ErrType, node)
 	}
-	right, _, bad := m.Load(y, typ, kid(n, 1))
+	right, _, bad := m.Load(y, typ, part.Kid(n, 1))
 	if bad.Err != api.OK {
 		return Operand{}, bad
 	}

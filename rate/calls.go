@@ -4,21 +4,22 @@ import (
 	"slices"
 
 	"lorgnette/api"
+	"lorgnette/part"
 	"lorgnette/scope"
 )
 
 // Call is what a call comes to: at once (kind 0), or by OpGo or OpDefer.
 func (m *Maker) Call(node, kind int) (Operand, api.Fault) {
-	node = m.bare(node)
+	node = part.Bare(m.tree(), node)
 	n := m.node(node)
 	if n.Kind != api.Call || kind != 0 && kind != api.OpGo && kind != api.OpDefer {
 		return m.fail(api.ErrType, node)
 	}
-	f, bad := m.Expr(kid(n, 0))
+	f, bad := m.Expr(part.Kid(n, 0))
 	if bad.Err != api.OK {
 		return Operand{}, bad
 	}
-	args := m.kids(kid(n, 1))
+	args := m.kids(part.Kid(n, 1))
 	switch {
 	case f.Mode == Generic:
 		return m.inferred(f, args, node, kind)
@@ -31,7 +32,7 @@ func (m *Maker) Call(node, kind int) (Operand, api.Fault) {
 		return m.fail(api.ErrType, node)
 	}
 	if f.Mode != Method && f.Mode != Func {
-		reg, typ, bad := m.Load(f, 0, kid(n, 0))
+		reg, typ, bad := m.Load(f, 0, part.Kid(n, 0))
 		if bad.Err != api.OK {
 			return Operand{}, bad
 		}
@@ -133,12 +134,12 @@ func (m *Maker) conversion(typ int, args []int, node int) (Operand, api.Fault) {
 // inferred is a call of a generic func whose parameters its arguments tell.
 func (m *Maker) inferred(f Operand, args []int, node, kind int) (Operand, api.Fault) {
 	decl := m.node(m.Binder.Suite().Scopes.Object(f.N).Node)
-	fields := m.kids(kid(m.node(kid(decl, 2)), 0))
+	fields := m.kids(part.Kid(m.node(part.Kid(decl, 2)), 0))
 	if decl.Kind != api.Func || len(fields) != len(args) {
 		return m.fail(api.ErrType, node)
 	}
 	told := map[string]int{}
-	params := m.kids(kid(decl, 1))
+	params := m.kids(part.Kid(decl, 1))
 	for _, i := range params {
 		told[m.node(i).Text] = 0
 	}
@@ -149,7 +150,7 @@ func (m *Maker) inferred(f Operand, args []int, node, kind int) (Operand, api.Fa
 			return Operand{}, bad
 		}
 		values = append(values, x)
-		m.match(told, kid(m.node(fields[place]), 0), plain(x.Type))
+		m.match(told, part.Kid(m.node(fields[place]), 0), plain(x.Type))
 	}
 	var types []int
 	for _, i := range params {
@@ -181,18 +182,18 @@ func (m *Maker) match(told map[string]int, node, typ int) {
 			told[n.Text] = typ
 		}
 	case api.Paren:
-		m.match(told, kid(n, 0), typ)
+		m.match(told, part.Kid(n, 0), typ)
 	case api.Pointer, api.Unary, api.Slice, api.Chan:
-		m.match(told, kid(n, 0), under.Elem)
+		m.match(told, part.Kid(n, 0), under.Elem)
 	case api.Array:
-		m.match(told, kid(n, 1), under.Elem)
+		m.match(told, part.Kid(n, 1), under.Elem)
 	case api.Index:
-		m.matchAll(told, m.kids(kid(n, 1)), m.types().At(typ).Args)
+		m.matchAll(told, m.kids(part.Kid(n, 1)), m.types().At(typ).Args)
 	case api.Struct:
-		m.matchAll(told, m.fieldTypes(kid(n, 0)), under.Types)
+		m.matchAll(told, m.fieldTypes(part.Kid(n, 0)), under.Types)
 	case api.FuncType:
-		m.matchAll(told, m.fieldTypes(kid(n, 0)), under.Types)
-		m.matchAll(told, m.fieldTypes(kid(n, 1)), under.Results)
+		m.matchAll(told, m.fieldTypes(part.Kid(n, 0)), under.Types)
+		m.matchAll(told, m.fieldTypes(part.Kid(n, 1)), under.Results)
 	}
 }
 
@@ -208,7 +209,7 @@ func (m *Maker) matchAll(told map[string]int, nodes, types []int) {
 func (m *Maker) fieldTypes(list int) []int {
 	var out []int
 	for _, i := range m.kids(list) {
-		out = append(out, kid(m.node(i), 0))
+		out = append(out, part.Kid(m.node(i), 0))
 	}
 	return out
 }

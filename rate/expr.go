@@ -3,6 +3,7 @@ package rate
 import (
 	"lorgnette/api"
 	"lorgnette/kind"
+	"lorgnette/part"
 	"lorgnette/wide"
 )
 
@@ -26,7 +27,7 @@ func (m *Maker) Expr(node int) (Operand, api.Fault) {
 	case api.Select:
 		return m.selected(node, n)
 	case api.Paren:
-		return m.Expr(kid(n, 0))
+		return m.Expr(part.Kid(n, 0))
 	case api.Unary:
 		return m.unary(node, n)
 	case api.Binary:
@@ -88,7 +89,7 @@ func (m *Maker) object(i, node int) (Operand, api.Fault) {
 
 func (m *Maker) selected(node int, n api.Node) (Operand, api.Fault) {
 	scopes := m.Binder.Suite().Scopes
-	if left := m.node(kid(n, 0)); left.Kind == api.Name {
+	if left := m.node(part.Kid(n, 0)); left.Kind == api.Name {
 		i, _, _ := scopes.Find(m.Scope, left.Text)
 		if o := scopes.Object(i); o.Kind == api.ObjPkg {
 			i, bad := m.Binder.Foreign(o.Number, node)
@@ -98,7 +99,7 @@ func (m *Maker) selected(node int, n api.Node) (Operand, api.Fault) {
 			return m.object(i, node)
 		}
 	}
-	x, bad := m.Expr(kid(n, 0))
+	x, bad := m.Expr(part.Kid(n, 0))
 	if bad.Err != api.OK {
 		return Operand{}, bad
 	}
@@ -113,7 +114,7 @@ func (m *Maker) selected(node int, n api.Node) (Operand, api.Fault) {
 
 // method is a method with its receiver in registers.
 func (m *Maker) method(x Operand, number int, pointer bool, node int) (Operand, api.Fault) {
-	at := kid(m.node(node), 0)
+	at := part.Kid(m.node(node), 0)
 	isPointer := m.types().At(x.Type).Kind == api.PointerType
 	out := Operand{Mode: Method, Type: m.function(number).Type, N: number}
 	if pointer && !isPointer {
@@ -143,7 +144,7 @@ func (m *Maker) field(x Operand, node int) (Operand, api.Fault) {
 		return m.fail(api.ErrName, node)
 	}
 	bad := api.Fault{}
-	at := kid(m.node(node), 0)
+	at := part.Kid(m.node(node), 0)
 	if m.under(x.Type).Kind == api.PointerType {
 		x, bad = m.follow(x, at, node)
 	}
@@ -168,7 +169,7 @@ func (m *Maker) unary(node int, n api.Node) (Operand, api.Fault) {
 	if n.Text == "&" {
 		return m.pointer(node, n)
 	}
-	x, bad := m.Expr(kid(n, 0))
+	x, bad := m.Expr(part.Kid(n, 0))
 	if bad.Err != api.OK {
 		return Operand{}, bad
 	}
@@ -178,11 +179,11 @@ func (m *Maker) unary(node int, n api.Node) (Operand, api.Fault) {
 		return m.typeOperand(node)
 	case !isValue(x):
 	case n.Text == "*" && k == api.PointerType:
-		return m.follow(x, kid(n, 0), node)
+		return m.follow(x, part.Kid(n, 0), node)
 	case n.Text == "<-" && k == api.ChanType:
 		return m.receive(x, node)
 	case n.Text == "-" && k == api.IntType, n.Text == "!" && k == api.BoolType:
-		reg, typ, bad := m.Load(x, 0, kid(n, 0))
+		reg, typ, bad := m.Load(x, 0, part.Kid(n, 0))
 		if bad.Err != api.OK {
 			return Operand{}, bad
 		}
@@ -194,7 +195,7 @@ func (m *Maker) unary(node int, n api.Node) (Operand, api.Fault) {
 }
 
 func (m *Maker) receive(x Operand, node int) (Operand, api.Fault) {
-	reg, typ, bad := m.Load(x, 0, kid(m.node(node), 0))
+	reg, typ, bad := m.Load(x, 0, part.Kid(m.node(node), 0))
 	if bad.Err != api.OK {
 		return Operand{}, bad
 	}
@@ -210,8 +211,8 @@ func (m *Maker) receive(x Operand, node int) (Operand, api.Fault) {
 
 // pointer is what leads to a place; a Lit gets one first.
 func (m *Maker) pointer(node int, n api.Node) (Operand, api.Fault) {
-	x, bad := m.Expr(kid(n, 0))
-	if bad.Err == api.OK && x.Mode == Value && m.node(m.bare(kid(n, 0))).Kind == api.Lit {
+	x, bad := m.Expr(part.Kid(n, 0))
+	if bad.Err == api.OK && x.Mode == Value && m.node(part.Bare(m.tree(), part.Kid(n, 0))).Kind == api.Lit {
 		x, bad = m.spot(x.Type, x.Reg, node)
 	}
 	if bad.Err != api.OK {
@@ -228,14 +229,14 @@ func (m *Maker) pointer(node int, n api.Node) (Operand, api.Fault) {
 }
 
 func (m *Maker) index(node int, n api.Node) (Operand, api.Fault) {
-	x, bad := m.Expr(kid(n, 0))
+	x, bad := m.Expr(part.Kid(n, 0))
 	if bad.Err != api.OK {
 		return Operand{}, bad
 	}
 	if x.Mode == Generic {
 		return m.instance(x, node, n)
 	}
-	list := m.kids(kid(n, 1))
+	list := m.kids(part.Kid(n, 1))
 	if !isValue(x) || len(list) != 1 {
 		return m.fail(api.ErrType, node)
 	}
@@ -244,7 +245,7 @@ func (m *Maker) index(node int, n api.Node) (Operand, api.Fault) {
 	case under.Kind == api.SliceType:
 		return m.item(x, list[0], node)
 	case under.Kind == api.PointerType && m.under(under.Elem).Kind == api.ArrayType:
-		x, bad = m.follow(x, kid(n, 0), node)
+		x, bad = m.follow(x, part.Kid(n, 0), node)
 	case under.Kind == api.ArrayType && x.Mode != Place:
 		x, bad = m.spot(x.Type, x.Reg, node)
 	case under.Kind != api.ArrayType:
@@ -279,7 +280,7 @@ func (m *Maker) element(x Operand, index, node int) (Operand, api.Fault) {
 
 // item is the place of an element of a slice.
 func (m *Maker) item(x Operand, index, node int) (Operand, api.Fault) {
-	slice, typ, bad := m.Load(x, 0, kid(m.node(node), 0))
+	slice, typ, bad := m.Load(x, 0, part.Kid(m.node(node), 0))
 	if bad.Err != api.OK {
 		return Operand{}, bad
 	}
@@ -298,7 +299,7 @@ func (m *Maker) item(x Operand, index, node int) (Operand, api.Fault) {
 // instance is what a generic object is of types.
 func (m *Maker) instance(x Operand, node int, n api.Node) (Operand, api.Fault) {
 	var args []int
-	for _, i := range m.kids(kid(n, 1)) {
+	for _, i := range m.kids(part.Kid(n, 1)) {
 		typ, bad := m.Binder.Type(m.Scope, i)
 		if bad.Err != api.OK {
 			return Operand{}, bad
@@ -317,7 +318,7 @@ func (m *Maker) instance(x Operand, node int, n api.Node) (Operand, api.Fault) {
 
 // written is the value of a func that is written as an expression.
 func (m *Maker) written(node int, n api.Node) (Operand, api.Fault) {
-	typ, bad := m.Binder.Type(m.Scope, kid(n, 0))
+	typ, bad := m.Binder.Type(m.Scope, part.Kid(n, 0))
 	if bad.Err != api.OK {
 		return Operand{}, bad
 	}

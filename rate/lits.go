@@ -1,15 +1,18 @@
 package rate
 
-import "lorgnette/api"
+import (
+	"lorgnette/api"
+	"lorgnette/part"
+)
 
 // literal is the value of a Lit.
 func (m *Maker) literal(node int, n api.Node) (Operand, api.Fault) {
-	typ, bad := m.Binder.Type(m.Scope, kid(n, 0))
+	typ, bad := m.Binder.Type(m.Scope, part.Kid(n, 0))
 	if bad.Err != api.OK {
 		return Operand{}, bad
 	}
 	under := m.under(typ)
-	list := m.kids(kid(n, 1))
+	list := m.kids(part.Kid(n, 1))
 	switch under.Kind {
 	case api.StructType:
 		return m.structLit(typ, under, list, node)
@@ -72,7 +75,7 @@ func (m *Maker) structLit(typ int, under api.Type, list []int, node int) (Operan
 	isSet := map[int]int{}
 	for k, i := range list {
 		if m.node(i).Kind == api.KeyVal {
-			i = kid(m.node(i), 0)
+			i = part.Kid(m.node(i), 0)
 		}
 		place := places[k]
 		isSet[place]++

@@ -2,28 +2,29 @@ package rule
 
 import (
 	"lorgnette/api"
+	"lorgnette/part"
 	"lorgnette/rate"
 )
 
 // choice writes a switch: first what decides, then the cases.
 func (w *writer) choice(node int, n api.Node, name string) api.Fault {
 	return w.inScope(node, func() api.Fault {
-		bad := w.maybe(kid(n, 0))
+		bad := w.maybe(part.Kid(n, 0))
 		if bad.Err != api.OK {
 			return bad
 		}
 		tag := got{}
-		if kid(n, 1) != 0 {
-			tag, bad = w.load(kid(n, 1), 0)
+		if part.Kid(n, 1) != 0 {
+			tag, bad = w.load(part.Kid(n, 1), 0)
 			if bad.Err == api.OK && !w.Binder.Types().Equal(tag.typ) {
-				bad = w.fault(api.ErrType, kid(n, 1))
+				bad = w.fault(api.ErrType, part.Kid(n, 1))
 			}
 		}
 		if bad.Err != api.OK {
 			return bad
 		}
 		end := w.Code.Label()
-		clauses := w.kids(kid(n, 2))
+		clauses := w.kids(part.Kid(n, 2))
 		bodies, bad := w.decide(clauses, tag, end, node)
 		if bad.Err != api.OK {
 			return bad
@@ -31,7 +32,7 @@ func (w *writer) choice(node int, n api.Node, name string) api.Fault {
 		bad = w.inTarget(target{label: name, out: end, next: none}, func() api.Fault {
 			for k, i := range clauses {
 				w.Code.Mark(bodies[k])
-				if bad := w.caseBody(kid(w.node(i), 1), bodies[k+1:]); bad.Err != api.OK {
+				if bad := w.caseBody(part.Kid(w.node(i), 1), bodies[k+1:]); bad.Err != api.OK {
 					return bad
 				}
 				w.jump(end, i)
@@ -50,7 +51,7 @@ func (w *writer) decide(clauses []int, tag got, end, node int) ([]int, api.Fault
 	for _, i := range clauses {
 		body := w.Code.Label()
 		bodies = append(bodies, body)
-		list := kid(w.node(i), 0)
+		list := part.Kid(w.node(i), 0)
 		if list == 0 && other != end {
 			return nil, w.fault(api.ErrTwice, i)
 		}
@@ -115,12 +116,12 @@ type clause struct {
 }
 
 func (w *writer) choose(node int, n api.Node, name string) api.Fault {
-	list := w.kids(kid(n, 0))
+	list := w.kids(part.Kid(n, 0))
 	var clauses []clause
 	i := api.Ins{Op: api.OpSelect}
 	hasDefault := false
 	for _, k := range list {
-		c, bad := w.arm(kid(w.node(k), 0))
+		c, bad := w.arm(part.Kid(w.node(k), 0))
 		if bad.Err == api.OK && c.arm.Kind == api.ArmDefault && hasDefault {
 			bad = w.fault(api.ErrTwice, k)
 		}
@@ -176,11 +177,11 @@ func (w *writer) arm(simple int) (clause, api.Fault) {
 
 // taken is the channel of a Simple that takes from one.
 func (w *writer) taken(n api.Node) (int, bool) {
-	right := kid(n, 0)
+	right := part.Kid(n, 0)
 	switch n.Kind {
 	case api.Expr:
 	case api.Assign:
-		left, list := w.kids(kid(n, 0)), w.kids(kid(n, 1))
+		left, list := w.kids(part.Kid(n, 0)), w.kids(part.Kid(n, 1))
 		if len(left) != 1 || len(list) != 1 || n.Text != "=" && n.Text != ":=" {
 			return 0, false
 		}
@@ -188,22 +189,22 @@ func (w *writer) taken(n api.Node) (int, bool) {
 	default:
 		return 0, false
 	}
-	x := w.node(w.bare(right))
-	return kid(x, 0), x.Kind == api.Unary && x.Text == "<-"
+	x := w.node(part.Bare(w.tree(), right))
+	return part.Kid(x, 0), x.Kind == api.Unary && x.Text == "<-"
 }
 
 // commBody writes what came into its variable or place, and a clause's statements.
 func (w *writer) commBody(node int, c clause) api.Fault {
 	n := w.node(node)
-	simple := w.node(kid(n, 0))
-	kids := w.kids(kid(n, 1))
+	simple := w.node(part.Kid(n, 0))
+	kids := w.kids(part.Kid(n, 1))
 	if simple.Kind != api.Assign && len(kids) == 0 {
 		return api.Fault{}
 	}
 	return w.inScope(node, func() api.Fault {
 		if simple.Kind == api.Assign {
 			ahead := w.Code.Stmt(c.number)
-			bad := w.came(simple, kid(n, 0), c)
+			bad := w.came(simple, part.Kid(n, 0), c)
 			w.Code.Stmt(ahead)
 			if bad.Err != api.OK {
 				return bad
@@ -214,7 +215,7 @@ func (w *writer) commBody(node int, c clause) api.Fault {
 }
 
 func (w *writer) came(n api.Node, node int, c clause) api.Fault {
-	left := w.kids(kid(n, 0))[0]
+	left := w.kids(part.Kid(n, 0))[0]
 	v := got{reg: c.arm.B, typ: c.elem}
 	if n.Text == ":=" {
 		if _, bad := w.names([]int{left}, node); bad.Err != api.OK {

@@ -5,6 +5,7 @@ import (
 
 	"lorgnette/api"
 	"lorgnette/kind"
+	"lorgnette/part"
 	"lorgnette/rate"
 )
 
@@ -46,14 +47,14 @@ func (w *writer) maybe(node int) api.Fault {
 func (w *writer) branch(node int, n api.Node) api.Fault {
 	return w.inScope(node, func() api.Fault {
 		other, end := w.Code.Label(), w.Code.Label()
-		bad := w.maybe(kid(n, 0))
+		bad := w.maybe(part.Kid(n, 0))
 		if bad.Err == api.OK {
-			bad = w.unless(kid(n, 1), other)
+			bad = w.unless(part.Kid(n, 1), other)
 		}
 		if bad.Err == api.OK {
-			bad = w.block(kid(n, 2))
+			bad = w.block(part.Kid(n, 2))
 		}
-		rest := kid(n, 3)
+		rest := part.Kid(n, 3)
 		if rest != 0 {
 			w.jump(end, node)
 		}
@@ -81,7 +82,7 @@ func (w *writer) inTarget(t target, do func() api.Fault) api.Fault {
 func (w *writer) loop(node int, n api.Node, name string) api.Fault {
 	return w.inScope(node, func() api.Fault {
 		ahead := len(w.Vars)
-		if bad := w.maybe(kid(n, 0)); bad.Err != api.OK {
+		if bad := w.maybe(part.Kid(n, 0)); bad.Err != api.OK {
 			return bad
 		}
 		head := w.Vars[ahead:len(w.Vars):len(w.Vars)]
@@ -89,12 +90,12 @@ func (w *writer) loop(node int, n api.Node, name string) api.Fault {
 		if bad := w.begin(node, n, top, end); bad.Err != api.OK {
 			return bad
 		}
-		bad := w.inTarget(target{label: name, out: end, next: next}, func() api.Fault { return w.block(kid(n, 3)) })
-		w.snare(kid(n, 3), head)
+		bad := w.inTarget(target{label: name, out: end, next: next}, func() api.Fault { return w.block(part.Kid(n, 3)) })
+		w.snare(part.Kid(n, 3), head)
 		w.Code.Mark(next)
 		w.renew(ahead, len(head), node)
 		if bad.Err == api.OK {
-			bad = w.maybe(kid(n, 2))
+			bad = w.maybe(part.Kid(n, 2))
 		}
 		w.jump(top, node)
 		w.Code.Mark(end)
@@ -105,10 +106,10 @@ func (w *writer) loop(node int, n api.Node, name string) api.Fault {
 // begin writes what stands ahead of a loop's body in each round.
 func (w *writer) begin(node int, n api.Node, top, end int) api.Fault {
 	switch {
-	case kid(n, 1) != 0:
+	case part.Kid(n, 1) != 0:
 		w.Code.Mark(top)
-		return w.unless(kid(n, 1), end)
-	case len(w.kids(kid(n, 3))) > 0:
+		return w.unless(part.Kid(n, 1), end)
+	case len(w.kids(part.Kid(n, 3))) > 0:
 		// The body may never come to the loop's own jump back: with this one the loop is come to whenever its body is.
 		w.jump(top, node)
 		w.Code.Mark(top)
@@ -138,8 +139,8 @@ func (w *writer) snare(body int, head []api.Local) {
 		return
 	}
 	last := w.node(kids[len(kids)-1])
-	call := w.node(w.bare(kid(last, 0)))
-	written := w.bare(kid(call, 0))
+	call := w.node(part.Bare(w.tree(), part.Kid(last, 0)))
+	written := part.Bare(w.tree(), part.Kid(call, 0))
 	if last.Kind != api.Go && last.Kind != api.Defer || call.Kind != api.Call || w.node(written).Kind != api.FuncLit {
 		return
 	}
@@ -168,7 +169,7 @@ func (w *writer) labeled(node int, n api.Node) api.Fault {
 		}
 	}
 	w.jumps = left
-	return w.labeledStmt(kid(n, 0), n.Text)
+	return w.labeledStmt(part.Kid(n, 0), n.Text)
 }
 
 // code is the label of the code for a name.
@@ -248,12 +249,12 @@ func (w *writer) over(node int) (over, api.Fault) {
 
 func (w *writer) ranged(node int, n api.Node, name string) api.Fault {
 	return w.inScope(node, func() api.Fault {
-		x, bad := w.over(kid(n, 2))
+		x, bad := w.over(part.Kid(n, 2))
 		if bad.Err != api.OK {
 			return bad
 		}
-		if kid(n, 1) != 0 && x.elem == 0 {
-			return w.fault(api.ErrType, kid(n, 1))
+		if part.Kid(n, 1) != 0 && x.elem == 0 {
+			return w.fault(api.ErrType, part.Kid(n, 1))
 		}
 		ahead := len(w.Vars)
 		if w.Globals.Old {
@@ -276,10 +277,10 @@ func (w *writer) ranged(node int, n api.Node, name string) api.Fault {
 			bad = w.round(n, x, at)
 		}
 		if bad.Err == api.OK {
-			bad = w.inTarget(target{label: name, out: end, next: next}, func() api.Fault { return w.block(kid(n, 3)) })
+			bad = w.inTarget(target{label: name, out: end, next: next}, func() api.Fault { return w.block(part.Kid(n, 3)) })
 		}
 		if bad.Err == api.OK && n.Text == ":=" {
-			w.snare(kid(n, 3), head)
+			w.snare(part.Kid(n, 3), head)
 		}
 		w.Code.Mark(next)
 		w.put(api.Ins{Op: api.OpBin, D: at, A: at, B: one, S: "+"}, node)
@@ -308,7 +309,7 @@ func (w *writer) fresh(n api.Node, x over) api.Fault {
 
 // round sets what a Range sets in each round.
 func (w *writer) round(n api.Node, x over, at int) api.Fault {
-	first, second := kid(n, 0), kid(n, 1)
+	first, second := part.Kid(n, 0), part.Kid(n, 1)
 	if first != 0 && !w.isBlank(first) {
 		if bad := w.take(first, rate.Operand{Mode: rate.Value, Type: x.first, Reg: at}); bad.Err != api.OK {
 			return bad

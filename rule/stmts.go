@@ -5,6 +5,7 @@ import (
 
 	"lorgnette/api"
 	"lorgnette/kind"
+	"lorgnette/part"
 	"lorgnette/rate"
 )
 
@@ -60,9 +61,9 @@ func (w *writer) simple(node int, n api.Node) api.Fault {
 	case api.Assign:
 		return w.assign(node, n)
 	case api.IncDec:
-		return w.change(kid(n, 0), n.Text[:1], node, func(int) (int, api.Fault) { return w.number(1, node), api.Fault{} })
+		return w.change(part.Kid(n, 0), n.Text[:1], node, func(int) (int, api.Fault) { return w.number(1, node), api.Fault{} })
 	case api.Expr:
-		return w.alone(kid(n, 0))
+		return w.alone(part.Kid(n, 0))
 	case api.Send:
 		a, bad := w.sent(n)
 		if bad.Err == api.OK {
@@ -70,10 +71,10 @@ func (w *writer) simple(node int, n api.Node) api.Fault {
 		}
 		return bad
 	case api.Go:
-		_, bad := w.Call(kid(n, 0), api.OpGo)
+		_, bad := w.Call(part.Kid(n, 0), api.OpGo)
 		return bad
 	case api.Defer:
-		_, bad := w.Call(kid(n, 0), api.OpDefer)
+		_, bad := w.Call(part.Kid(n, 0), api.OpDefer)
 		return bad
 	case api.Return:
 		return w.back(node, n)
@@ -200,14 +201,14 @@ func (w *writer) give(name int, v got) api.Fault {
 func (w *writer) initial(node int, n api.Node) ([]got, int, api.Fault) {
 	told := 0
 	bad := api.Fault{}
-	if kid(n, 1) != 0 {
-		told, bad = w.Binder.Type(w.Scope, kid(n, 1))
+	if part.Kid(n, 1) != 0 {
+		told, bad = w.Binder.Type(w.Scope, part.Kid(n, 1))
 	}
-	list := w.kids(kid(n, 2))
+	list := w.kids(part.Kid(n, 2))
 	if bad.Err != api.OK || len(list) == 0 {
 		return nil, told, bad
 	}
-	values, bad := w.values(list, slices.Repeat([]int{told}, len(w.kids(kid(n, 0)))), node)
+	values, bad := w.values(list, slices.Repeat([]int{told}, len(w.kids(part.Kid(n, 0)))), node)
 	return values, told, bad
 }
 
@@ -216,7 +217,7 @@ func (w *writer) variables(node int, n api.Node) api.Fault {
 	if bad.Err != api.OK {
 		return bad
 	}
-	for place, name := range w.kids(kid(n, 0)) {
+	for place, name := range w.kids(part.Kid(n, 0)) {
 		v := got{typ: told}
 		if values != nil {
 			v = values[place]
@@ -233,7 +234,7 @@ func (w *writer) variables(node int, n api.Node) api.Fault {
 }
 
 func (w *writer) constants(node int, n api.Node) api.Fault {
-	names := w.kids(kid(n, 0))
+	names := w.kids(part.Kid(n, 0))
 	var list []api.Object
 	for place, name := range names {
 		k, typ, bad := w.Binder.Declared(w.Scope, node, place)
@@ -253,12 +254,12 @@ func (w *writer) constants(node int, n api.Node) api.Fault {
 
 // isBlank tells whether a node is the low line.
 func (w *writer) isBlank(node int) bool {
-	n := w.node(w.bare(node))
+	n := w.node(part.Bare(w.tree(), node))
 	return n.Kind == api.Name && n.Text == "_"
 }
 
 func (w *writer) assign(node int, n api.Node) api.Fault {
-	left, right := w.kids(kid(n, 0)), w.kids(kid(n, 1))
+	left, right := w.kids(part.Kid(n, 0)), w.kids(part.Kid(n, 1))
 	switch n.Text {
 	case "=":
 		return w.replace(left, right, node)
@@ -386,7 +387,7 @@ func (w *writer) change(left int, op string, node int, other func(typ int) (int,
 
 // alone is an expression by itself: a call, or what takes from a channel.
 func (w *writer) alone(node int) api.Fault {
-	n := w.node(w.bare(node))
+	n := w.node(part.Bare(w.tree(), node))
 	if n.Kind != api.Call && !(n.Kind == api.Unary && n.Text == "<-") {
 		return w.fault(api.ErrType, node)
 	}
@@ -416,16 +417,16 @@ func (w *writer) channel(node int) (int, int, int, api.Fault) {
 
 // sent is a Send, as an arm: the channel, and the value.
 func (w *writer) sent(n api.Node) (api.Arm, api.Fault) {
-	channel, elem, slots, bad := w.channel(kid(n, 0))
+	channel, elem, slots, bad := w.channel(part.Kid(n, 0))
 	if bad.Err != api.OK {
 		return api.Arm{}, bad
 	}
-	v, bad := w.load(kid(n, 1), elem)
+	v, bad := w.load(part.Kid(n, 1), elem)
 	return api.Arm{Kind: api.ArmSend, A: channel, B: v.reg, N: slots, T: elem}, bad
 }
 
 func (w *writer) back(node int, n api.Node) api.Fault {
-	values, bad := w.values(w.kids(kid(n, 0)), w.results, node)
+	values, bad := w.values(w.kids(part.Kid(n, 0)), w.results, node)
 	if bad.Err != api.OK {
 		return bad
 	}

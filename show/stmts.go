@@ -1,31 +1,34 @@
 package show
 
-import "lorgnette/api"
+import (
+	"lorgnette/api"
+	"lorgnette/part"
+)
 
 func (p *printer) stmt(n api.Node) {
 	switch n.Kind {
 	case api.Expr:
-		p.node(kid(n, 0))
+		p.node(part.Kid(n, 0))
 	case api.Assign:
-		p.row(p.kids(kid(n, 0)))
+		p.row(p.kids(part.Kid(n, 0)))
 		p.put(" ", n.Text, " ")
-		p.row(p.kids(kid(n, 1)))
+		p.row(p.kids(part.Kid(n, 1)))
 	case api.IncDec:
-		p.node(kid(n, 0))
+		p.node(part.Kid(n, 0))
 		p.put(n.Text)
 	case api.Send:
-		p.node(kid(n, 0))
+		p.node(part.Kid(n, 0))
 		p.put(" <- ")
-		p.node(kid(n, 1))
+		p.node(part.Kid(n, 1))
 	case api.Go:
 		p.put("go ")
-		p.node(kid(n, 0))
+		p.node(part.Kid(n, 0))
 	case api.Defer:
 		p.put("defer ")
-		p.node(kid(n, 0))
+		p.node(part.Kid(n, 0))
 	case api.Return:
 		p.put("return")
-		if values := p.kids(kid(n, 0)); len(values) > 0 {
+		if values := p.kids(part.Kid(n, 0)); len(values) > 0 {
 			p.put(" ")
 			p.row(values)
 		}
@@ -49,11 +52,11 @@ func (p *printer) compound(n api.Node) {
 		p.ranged(n)
 	case api.Switch:
 		p.put("switch ")
-		p.head(kid(n, 0), kid(n, 1))
-		p.clauses(kid(n, 2))
+		p.head(part.Kid(n, 0), part.Kid(n, 1))
+		p.clauses(part.Kid(n, 2))
 	case api.Choose:
 		p.put("select ")
-		p.clauses(kid(n, 0))
+		p.clauses(part.Kid(n, 0))
 	case api.Case, api.Comm:
 		p.clause(n)
 	case api.Labeled:
@@ -107,9 +110,9 @@ func (p *printer) head(first, x int) {
 
 func (p *printer) branches(n api.Node) {
 	p.put("if ")
-	p.head(kid(n, 0), kid(n, 1))
-	p.node(kid(n, 2))
-	if rest := kid(n, 3); rest != 0 {
+	p.head(part.Kid(n, 0), part.Kid(n, 1))
+	p.node(part.Kid(n, 2))
+	if rest := part.Kid(n, 3); rest != 0 {
 		p.put(" else ")
 		p.node(rest)
 	}
@@ -117,10 +120,10 @@ func (p *printer) branches(n api.Node) {
 
 func (p *printer) loop(n api.Node) {
 	p.put("for ")
-	first, cond, last := kid(n, 0), kid(n, 1), kid(n, 2)
+	first, cond, last := part.Kid(n, 0), part.Kid(n, 1), part.Kid(n, 2)
 	if first == 0 && last == 0 {
 		p.head(0, cond)
-		p.node(kid(n, 3))
+		p.node(part.Kid(n, 3))
 		return
 	}
 	p.node(first)
@@ -128,22 +131,22 @@ func (p *printer) loop(n api.Node) {
 	p.node(cond)
 	p.put("; ")
 	p.head(0, last)
-	p.node(kid(n, 3))
+	p.node(part.Kid(n, 3))
 }
 
 func (p *printer) ranged(n api.Node) {
 	p.put("for ")
 	if n.Text != "" {
-		p.node(kid(n, 0))
-		if second := kid(n, 1); second != 0 {
+		p.node(part.Kid(n, 0))
+		if second := part.Kid(n, 1); second != 0 {
 			p.put(", ")
 			p.node(second)
 		}
 		p.put(" ", n.Text, " ")
 	}
 	p.put("range ")
-	p.head(0, kid(n, 2))
-	p.node(kid(n, 3))
+	p.head(0, part.Kid(n, 2))
+	p.node(part.Kid(n, 3))
 }
 
 func (p *printer) clauses(list int) {
@@ -157,20 +160,20 @@ func (p *printer) clauses(list int) {
 }
 
 func (p *printer) clause(n api.Node) {
-	if what := kid(n, 0); what != 0 {
+	if what := part.Kid(n, 0); what != 0 {
 		p.put("case ")
 		p.node(what)
 		p.put(":")
 	} else {
 		p.put("default:")
 	}
-	p.lines(p.kids(kid(n, 1)))
+	p.lines(p.kids(part.Kid(n, 1)))
 }
 
 func (p *printer) labeled(n api.Node) {
 	p.put(n.Text, ":")
-	if p.t.Node(kid(n, 0)).Kind != api.Empty {
+	if p.t.Node(part.Kid(n, 0)).Kind != api.Empty {
 		p.line()
 	}
-	p.node(kid(n, 0))
+	p.node(part.Kid(n, 0))
 }

@@ -170,3 +170,28 @@ func TestSort(t *testing.T) {
 		t.Errorf("%q", got)
 	}
 }
+
+// P8, P29.4: comments change places alone, and what nobody imports changes nothing else.
+func TestElse(t *testing.T) {
+	want, bad := Look(files(several...), false, false, budget())
+	if bad.Err != api.OK {
+		t.Fatal(bad)
+	}
+	more := append(slices.Clone(several), "aa a package aa; func Stop() { return; print(1) }", "zz a package zz; import \"q\"; func F() { q.Stop() }")
+	found, bad := Look(files(more...), false, true, budget())
+	found = slices.DeleteFunc(found, func(f api.Finding) bool { return f.Pkg == "aa" })
+	if bad.Err != api.OK || !slices.Equal(found, want) {
+		t.Error(Text(found), bad)
+	}
+	var spaced []string
+	for _, s := range several {
+		spaced = append(spaced, strings.Replace(s, "package", "/* a */ package", 1))
+	}
+	moved, bad := Look(files(spaced...), false, false, budget())
+	for k := range moved {
+		moved[k].Col -= len("/* a */ ")
+	}
+	if bad.Err != api.OK || !slices.Equal(moved, want) {
+		t.Error(Text(moved), bad)
+	}
+}

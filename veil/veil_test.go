@@ -1,6 +1,7 @@
 package veil
 
 import (
+	"regexp"
 	"slices"
 	"strconv"
 	"strings"
@@ -59,5 +60,30 @@ func TestWays(t *testing.T) {
 	}
 	if got := Lost(api.Proc{Code: []api.Ins{end, read}}); len(got) != 0 {
 		t.Error(got)
+	}
+}
+
+// P26.2: comments, names and places change nothing.
+func TestNames(t *testing.T) {
+	src := "package main\nfunc f() error { return nil }\nfunc h(x bool) error {\nerr := f()\nif x {\nerr := f()\nf() }\nif x {\nerr := f()\nf(); err = f() }\nerr = f()\nif x {\nerr := f()\nf() }\nreturn err }"
+	lost := func(src string) [][]int {
+		p, bad := whole.Build([]api.Source{{Pkg: "m", Name: "a", Data: src}}, false)
+		if bad.Err != api.OK {
+			t.Fatal(bad)
+		}
+		var list [][]int
+		for _, proc := range p.Procs {
+			list = append(list, Lost(proc))
+		}
+		return list
+	}
+	want := lost(src)
+	for _, other := range []string{regexp.MustCompile(`\berr\b`).ReplaceAllString(src, "e0"), strings.ReplaceAll(src, "\n", "\n\n/* c */ "), strings.ReplaceAll(src, " ", "\t ")} {
+		if got := lost(other); !slices.EqualFunc(got, want, slices.Equal) {
+			t.Error(got, want)
+		}
+	}
+	if !slices.Equal(want[1], []int{2}) {
+		t.Error(want)
 	}
 }
