@@ -252,7 +252,7 @@ func TestTakes(t *testing.T) {
 		if x.Nilable(i) != slices.Contains(nilable, i) || x.Equal(i) != slices.Contains(equal, i) || x.Takes(i, Nil) != (slices.Contains(nilable, i) || i == Nil) {
 			t.Error(x.Text(i), x.Nilable(i), x.Equal(i))
 		}
-		if x.Takes(i, i) != (i > 0 && i < x.Len()) {
+		if x.Takes(i, i) != (i != 0) {
 			t.Error(i)
 		}
 		if x.Takes(i, UInt) != (i == Int || i == n || i == m || i == UInt) || x.Takes(i, UBool) != (i == Bool || i == UBool) || x.Takes(i, UText) != (i == Text || i == UText) {
@@ -264,7 +264,7 @@ func TestTakes(t *testing.T) {
 			t.Error(c)
 		}
 	}
-	for _, c := range [][2]int{{n, m}, {0, 0}, {u, Int}, {Int, u}, {u, 0}, {Int, Bool}, {st, tuple}, {tuple, Int}, {Int, UBool}, {UInt, Int}, {Nil, ptr}, {0, Nil}, {99, 99}} {
+	for _, c := range [][2]int{{n, m}, {0, 0}, {u, Int}, {Int, u}, {u, 0}, {Int, Bool}, {st, tuple}, {tuple, Int}, {Int, UBool}, {UInt, Int}, {Nil, ptr}, {0, Nil}, {99, 98}, {-1, 99}, {99, Nil}, {99, UInt}} {
 		if x.Takes(c[0], c[1]) {
 			t.Error(c)
 		}

@@ -42,7 +42,7 @@ func TestFacts(t *testing.T) {
 		tag, n int
 		f      api.Known
 		want   bool
-	}{{Flat, 2, fact(0, 3), true}, {Flat, 2, fact(0, 4), false}, {Flat, 2, fact(-1, 0), false}, {Flat, 2, fact(1), false}, {Flat, 2, fact(1, 1, 1), false}, {Set, 2, fact(0, 1), true}, {Set, 2, fact(0, 2), false}, {Set, 1, fact(-1), false}, {Flat, 2, api.Known{}, true}, {Set, 0, fact(), true}, {Flat, 0, api.Known{}, true}, {Flat, 1, api.Known{Cells: []int{0}}, false}, {0, 0, fact(), false}, {3, 0, fact(), false}} {
+	}{{Flat, 2, fact(0, 3), true}, {Flat, 2, fact(0, 4), false}, {Flat, 2, fact(-1, 0), false}, {Flat, 2, fact(1), false}, {Flat, 2, fact(1, 1, 1), false}, {Set, 2, fact(0, 1), true}, {Set, 2, fact(0, 2), false}, {Set, 1, fact(-1), false}, {Flat, 2, api.Known{}, true}, {Set, 0, fact(), true}, {Flat, 0, api.Known{}, true}, {Flat, 1, api.Known{Cells: []int{0}}, false}, {0, 0, fact(), false}, {3, 0, fact(), false}, {Flat, -1, fact(), false}, {Set, -1, api.Known{}, true}} {
 		if Good(c.tag, c.n, c.f) != c.want {
 			t.Error(c)
 		}
