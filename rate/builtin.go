@@ -11,8 +11,8 @@ const (
 	errorType = kind.Error
 )
 
-// result1 puts an instruction that answers one scalar.
-func (m *Maker) result1(i api.Ins, typ, node int) Operand {
+// answer puts an instruction that answers one scalar.
+func (m *Maker) answer(i api.Ins, typ, node int) Operand {
 	i.D = m.Code.Reg(1)
 	m.put(i, node)
 	return value(typ, i.D)
@@ -56,7 +56,7 @@ func (m *Maker) length(arg, node int) (Operand, api.Fault) {
 		if bad.Err != api.OK {
 			return Operand{}, bad
 		}
-		return m.result1(api.Ins{Op: api.OpLen, A: reg}, kind.Int, node), bad
+		return m.answer(api.Ins{Op: api.OpLen, A: reg}, kind.Int, node), bad
 	}
 	return m.fail(api.ErrType, node)
 }
@@ -85,7 +85,7 @@ func (m *Maker) append(args []int, node int) (Operand, api.Fault) {
 		}
 		i.Args = append(i.Args, reg)
 	}
-	return m.result1(i, x.Type, node), bad
+	return m.answer(i, x.Type, node), bad
 }
 
 func (m *Maker) makeCall(args []int, node int) (Operand, api.Fault) {
@@ -117,7 +117,7 @@ func (m *Maker) makeCall(args []int, node int) (Operand, api.Fault) {
 	if bad.Err != api.OK {
 		return Operand{}, bad
 	}
-	return m.result1(api.Ins{Op: op, A: reg, M: slots, T: under.Elem}, typ, node), bad
+	return m.answer(api.Ins{Op: op, A: reg, M: slots, T: under.Elem}, typ, node), bad
 }
 
 func (m *Maker) newCall(arg, node int) (Operand, api.Fault) {
@@ -132,7 +132,7 @@ func (m *Maker) newCall(arg, node int) (Operand, api.Fault) {
 	if bad.Err != api.OK {
 		return Operand{}, bad
 	}
-	return m.result1(api.Ins{Op: api.OpNew, T: typ}, pointer, node), bad
+	return m.answer(api.Ins{Op: api.OpNew, T: typ}, pointer, node), bad
 }
 
 func (m *Maker) closeCall(arg, node int) (Operand, api.Fault) {

@@ -227,7 +227,7 @@ func (m *Maker) builtin(number int, args []int, node int) (Operand, api.Fault) {
 		if len(args) != 0 {
 			return m.fail(api.ErrType, node)
 		}
-		return m.result1(api.Ins{Op: api.OpRecover}, errorType, node), api.Fault{}
+		return m.answer(api.Ins{Op: api.OpRecover}, errorType, node), api.Fault{}
 	}
 	if len(args) != 1 {
 		return m.fail(api.ErrType, node)
@@ -252,5 +252,5 @@ func (m *Maker) builtin(number int, args []int, node int) (Operand, api.Fault) {
 		m.put(api.Ins{Op: api.OpPanic, A: reg}, node)
 		return Operand{Mode: None}, bad
 	}
-	return m.result1(api.Ins{Op: api.OpFail, A: reg}, errorType, node), bad
+	return m.answer(api.Ins{Op: api.OpFail, A: reg}, errorType, node), bad
 }
