@@ -1,10 +1,11 @@
-package bind
+package bind_test
 
 import (
 	"strings"
 	"testing"
 
 	"lorgnette/api"
+	. "lorgnette/bind"
 	"lorgnette/gather"
 	"lorgnette/kind"
 	"lorgnette/parse"

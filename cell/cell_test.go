@@ -1,4 +1,4 @@
-package cell
+package cell_test
 
 import (
 	"math"
@@ -6,6 +6,7 @@ import (
 	"testing"
 
 	"lorgnette/api"
+	. "lorgnette/cell"
 )
 
 func v(n int) api.Value { return api.Value{Kind: api.ValInt, N: n} }

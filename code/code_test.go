@@ -1,4 +1,4 @@
-package code
+package code_test
 
 import (
 	"math"
@@ -6,6 +6,7 @@ import (
 	"testing"
 
 	"lorgnette/api"
+	. "lorgnette/code"
 )
 
 // P11.1: of each Op what it reads and writes, of D 10, A 20, B 30, N 2, M 3, Args 40, 50.

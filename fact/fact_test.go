@@ -1,12 +1,14 @@
-package fact
+package fact_test
 
 import (
+	"fmt"
 	"reflect"
 	"strconv"
 	"strings"
 	"testing"
 
 	"lorgnette/api"
+	. "lorgnette/fact"
 )
 
 // P28.1
@@ -62,7 +64,7 @@ func TestWrong(t *testing.T) {
 		t.Error(e)
 	}
 	with := func(lines string) string {
-		return lines + lastLine(lines)
+		return lines + fmt.Sprintf("sum %016x\n", Sum(lines))
 	}
 	for _, s := range []string{"", "x", "sum", "sum cbf29ce484222325", "sum cbf29ce484222325\n\n", "sum CBF29CE484222325\n", "sum 0\n", with("\"a\" back\n"), with("\"a\" back 2\n"), with("\"a\" back \n"), with("\"a\"  back 1\n"), with("\"a\" Back 1\n"), with("a back 1\n"), with("\"a\" back 1 \n"), with("\"a\" back 1"), with("\"\\x\" back 1\n"), with("\"b\" back 1\n\"a\" back 1\n"), with("\"a\" \"b\" back 1\n"), with("\"a\" back -1\n"), with("\n"), with("\"a\"back 1\n"), with("\"a\n\" back 1\n"), with("\"" + key + "k\" back -\n"), with("sum 1\n"), with("\"a\" // back 1\n")} {
 		if list, e := Decode(s); list != nil || e != api.ErrForm {

@@ -1,4 +1,4 @@
-package flow
+package flow_test
 
 import (
 	"math/rand"
@@ -9,6 +9,7 @@ import (
 
 	"lorgnette/api"
 	"lorgnette/code"
+	. "lorgnette/flow"
 )
 
 func proc(list ...api.Ins) api.Proc { return api.Proc{Regs: 4, Code: list, Stmts: make([]api.Stmt, 1)} }

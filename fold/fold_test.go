@@ -1,12 +1,17 @@
-package fold
+package fold_test
 
 import (
 	"strings"
 	"testing"
 
 	"lorgnette/api"
+	. "lorgnette/fold"
 	"lorgnette/wide"
 )
+
+func number(w api.Wide) api.Konst { return api.Konst{Kind: api.ValInt, W: w} }
+
+func truth(b bool) api.Konst { return api.Konst{Kind: api.ValBool, B: b} }
 
 func num(n int) api.Konst { return number(wide.Of(n)) }
 

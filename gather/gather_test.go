@@ -1,4 +1,4 @@
-package gather
+package gather_test
 
 import (
 	"reflect"
@@ -7,6 +7,7 @@ import (
 	"testing"
 
 	"lorgnette/api"
+	. "lorgnette/gather"
 )
 
 // files makes files of texts "pkg name bytes".

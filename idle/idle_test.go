@@ -1,4 +1,4 @@
-package idle
+package idle_test
 
 import (
 	"slices"
@@ -9,6 +9,7 @@ import (
 	"lorgnette/api"
 	"lorgnette/code"
 	"lorgnette/flow"
+	. "lorgnette/idle"
 	"lorgnette/solve"
 	"lorgnette/whole"
 )

@@ -1,4 +1,4 @@
-package kind
+package kind_test
 
 import (
 	"slices"
@@ -6,6 +6,7 @@ import (
 	"testing"
 
 	"lorgnette/api"
+	. "lorgnette/kind"
 )
 
 func of(t *testing.T, x *Types, y api.Type) int {

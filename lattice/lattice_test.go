@@ -1,4 +1,4 @@
-package lattice
+package lattice_test
 
 import (
 	"math"
@@ -6,6 +6,7 @@ import (
 	"testing"
 
 	"lorgnette/api"
+	. "lorgnette/lattice"
 )
 
 func fact(cells ...int) api.Known { return api.Known{Comes: true, Cells: cells} }

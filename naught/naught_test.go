@@ -1,4 +1,4 @@
-package naught
+package naught_test
 
 import (
 	"reflect"
@@ -9,6 +9,7 @@ import (
 
 	"lorgnette/api"
 	"lorgnette/flow"
+	. "lorgnette/naught"
 	"lorgnette/solve"
 	"lorgnette/step"
 	"lorgnette/whole"

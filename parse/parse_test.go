@@ -1,4 +1,4 @@
-package parse
+package parse_test
 
 import (
 	"strconv"
@@ -6,6 +6,7 @@ import (
 	"testing"
 
 	"lorgnette/api"
+	. "lorgnette/parse"
 	"lorgnette/tree"
 )
 

@@ -1,4 +1,4 @@
-package patch
+package patch_test
 
 import (
 	"slices"
@@ -6,6 +6,7 @@ import (
 	"testing"
 
 	"lorgnette/api"
+	. "lorgnette/patch"
 	"lorgnette/play"
 	"lorgnette/solve"
 	"lorgnette/suite"

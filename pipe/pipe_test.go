@@ -1,10 +1,11 @@
-package pipe
+package pipe_test
 
 import (
 	"slices"
 	"testing"
 
 	"lorgnette/api"
+	. "lorgnette/pipe"
 )
 
 func v(n int) []api.Value { return []api.Value{{Kind: api.ValInt, N: n}, {Kind: api.ValText}} }

@@ -1,10 +1,11 @@
-package play
+package play_test
 
 import (
 	"strings"
 	"testing"
 
 	"lorgnette/api"
+	. "lorgnette/play"
 	"lorgnette/whole"
 )
 

@@ -1,4 +1,4 @@
-package rate
+package rate_test
 
 import (
 	"reflect"
@@ -11,6 +11,7 @@ import (
 	"lorgnette/code"
 	"lorgnette/gather"
 	"lorgnette/kind"
+	. "lorgnette/rate"
 	"lorgnette/wide"
 )
 

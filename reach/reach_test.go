@@ -1,4 +1,4 @@
-package reach
+package reach_test
 
 import (
 	"slices"
@@ -8,6 +8,7 @@ import (
 
 	"lorgnette/api"
 	"lorgnette/flow"
+	. "lorgnette/reach"
 	"lorgnette/step"
 	"lorgnette/whole"
 )

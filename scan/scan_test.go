@@ -1,4 +1,4 @@
-package scan
+package scan_test
 
 import (
 	"slices"
@@ -7,6 +7,7 @@ import (
 	"testing"
 
 	"lorgnette/api"
+	. "lorgnette/scan"
 )
 
 func show(list []api.Token) string {

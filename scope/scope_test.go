@@ -1,10 +1,11 @@
-package scope
+package scope_test
 
 import (
 	"strings"
 	"testing"
 
 	"lorgnette/api"
+	. "lorgnette/scope"
 )
 
 // P7.1, P7.3

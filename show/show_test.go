@@ -1,4 +1,4 @@
-package show
+package show_test
 
 import (
 	"math/rand"
@@ -8,6 +8,7 @@ import (
 
 	"lorgnette/api"
 	"lorgnette/parse"
+	. "lorgnette/show"
 	"lorgnette/tree"
 )
 

@@ -1,4 +1,4 @@
-package snare
+package snare_test
 
 import (
 	"slices"
@@ -7,6 +7,7 @@ import (
 
 	"lorgnette/api"
 	"lorgnette/play"
+	. "lorgnette/snare"
 	"lorgnette/whole"
 )
 

@@ -1,4 +1,4 @@
-package solve
+package solve_test
 
 import (
 	"math"
@@ -9,6 +9,7 @@ import (
 
 	"lorgnette/api"
 	"lorgnette/lattice"
+	. "lorgnette/solve"
 )
 
 func fact(cells ...int) api.Known { return api.Known{Comes: true, Cells: cells} }

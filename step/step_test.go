@@ -1,4 +1,4 @@
-package step
+package step_test
 
 import (
 	"reflect"
@@ -8,6 +8,7 @@ import (
 	"testing"
 
 	"lorgnette/api"
+	. "lorgnette/step"
 	"lorgnette/whole"
 )
 

@@ -1,4 +1,4 @@
-package suite
+package suite_test
 
 import (
 	"math/rand"
@@ -9,6 +9,7 @@ import (
 	"lorgnette/api"
 	"lorgnette/fact"
 	"lorgnette/solve"
+	. "lorgnette/suite"
 	"lorgnette/whole"
 )
 

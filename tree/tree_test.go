@@ -1,4 +1,4 @@
-package tree
+package tree_test
 
 import (
 	"slices"
@@ -6,6 +6,7 @@ import (
 	"testing"
 
 	"lorgnette/api"
+	. "lorgnette/tree"
 )
 
 func add(t *testing.T, x *Tree, kind int, text string, kids ...int) int {

@@ -1,4 +1,4 @@
-package twin
+package twin_test
 
 import (
 	"slices"
@@ -6,6 +6,7 @@ import (
 
 	"lorgnette/api"
 	"lorgnette/play"
+	. "lorgnette/twin"
 	"lorgnette/whole"
 )
 

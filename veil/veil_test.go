@@ -1,4 +1,4 @@
-package veil
+package veil_test
 
 import (
 	"regexp"
@@ -8,6 +8,7 @@ import (
 	"testing"
 
 	"lorgnette/api"
+	. "lorgnette/veil"
 	"lorgnette/whole"
 )
 

@@ -1,4 +1,4 @@
-package whole
+package whole_test
 
 import (
 	"reflect"
@@ -7,6 +7,7 @@ import (
 
 	"lorgnette/api"
 	"lorgnette/code"
+	. "lorgnette/whole"
 )
 
 // files makes files of texts "pkg name bytes".

@@ -1,4 +1,4 @@
-package wide
+package wide_test
 
 import (
 	"math"
@@ -7,6 +7,7 @@ import (
 	"testing"
 
 	"lorgnette/api"
+	. "lorgnette/wide"
 )
 
 func toBig(w api.Wide) *big.Int {
