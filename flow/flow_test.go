@@ -135,7 +135,7 @@ func TestComes(t *testing.T) {
 	for _, c := range []struct {
 		from, to int
 		want     bool
-	}{{0, 0, true}, {0, 1, true}, {0, 3, true}, {0, 2, false}, {1, 3, false}, {1, 1, true}, {2, 2, true}, {2, 3, true}, {3, 0, false}, {-1, 0, false}, {0, 4, false}, {4, 4, false}, {0, -1, false}} {
+	}{{0, 0, true}, {0, 1, true}, {0, 3, true}, {0, 2, false}, {1, 3, false}, {1, 1, true}, {2, 2, true}, {2, 3, true}, {3, 0, false}, {-1, 0, false}, {0, 4, false}, {4, 4, false}, {4, 0, false}, {5, 0, false}, {0, -1, false}} {
 		if Comes(p, c.from, c.to) != c.want {
 			t.Error(c)
 		}

@@ -9,6 +9,7 @@ import (
 
 	"lorgnette/api"
 	"lorgnette/flow"
+	"lorgnette/kind"
 	. "lorgnette/naught"
 	"lorgnette/solve"
 	"lorgnette/step"
@@ -141,5 +142,67 @@ func TestRuns(t *testing.T) {
 	}
 	if n != 3 || met == 0 {
 		t.Error(n, met)
+	}
+}
+
+// P23.1: by instructions.
+func TestMoves(t *testing.T) {
+	types := kind.New()
+	pointer, _ := types.Of(api.Type{Kind: api.PointerType, Elem: kind.Int})
+	null := func(d int) api.Ins { return api.Ins{Op: api.OpPut, D: d, V: api.Value{Kind: api.ValNil}} }
+	here := func(d int) api.Ins { return api.Ins{Op: api.OpNew, D: d} }
+	deref := func(a int) api.Ins { return api.Ins{Op: api.OpDeref, A: a} }
+	get := api.Ins{Op: api.OpGet, D: 0}
+	set := func(a int) api.Ins { return api.Ins{Op: api.OpSet, A: a} }
+	for k, c := range []struct {
+		list []api.Ins
+		want []int
+	}{
+		{[]api.Ins{null(0), here(1), null(2), {Op: api.OpMove, D: 3, A: 0, N: 3}, deref(3), deref(4), deref(5)}, []int{4, 6}},
+		{[]api.Ins{null(0), here(1), {Op: api.OpMove, D: 1, A: 0, N: 2}, deref(1), deref(2)}, []int{3}},
+		{[]api.Ins{get, null(1), set(1), deref(0)}, nil}, {[]api.Ins{null(1), set(1), get, deref(0)}, []int{3}}, {[]api.Ins{null(1), set(1), get, {Op: api.OpMake}, deref(0)}, nil}, {[]api.Ins{{Op: api.OpMake}, get, deref(0)}, []int{2}},
+		{[]api.Ins{null(0), deref(0), deref(0)}, []int{1}}, {[]api.Ins{{Op: api.OpMake}, get, deref(0), deref(0)}, []int{2}}, {[]api.Ins{null(0), {Op: api.OpUn, D: 0}, deref(0)}, nil}, {[]api.Ins{null(0), {Op: api.OpProc, D: 0, N: 5, M: 1}, deref(0)}, nil},
+		{[]api.Ins{null(1), set(1), get, {Op: api.OpMove, D: 3, A: 0, N: 1}, here(0), deref(3), set(0)}, []int{5}},
+	} {
+		p := api.Proc{Vars: []api.Local{{Type: pointer}}, Regs: 6, Stmts: make([]api.Stmt, 1), Code: append(c.list, api.Ins{Op: api.OpRet})}
+		got, _, e := Derefs(types, p, flow.Of(p), nil, solve.Budget(99))
+		if e != api.OK || !slices.Equal(got, c.want) {
+			t.Error(k, got, e)
+		}
+	}
+}
+
+// P23.1: what tests tell, by instructions.
+func TestTests(t *testing.T) {
+	types := kind.New()
+	pointer, _ := types.Of(api.Type{Kind: api.PointerType, Elem: kind.Int})
+	get, null := api.Ins{Op: api.OpGet, D: 0}, api.Ins{Op: api.OpPut, D: 1, V: api.Value{Kind: api.ValNil}}
+	bin := func(d, a, b int, s string) api.Ins { return api.Ins{Op: api.OpBin, D: d, A: a, B: b, S: s} }
+	for k, c := range []struct {
+		list  []api.Ins
+		holds bool // the Deref is where the test holds
+		isNil bool
+	}{
+		{[]api.Ins{get, null, bin(2, 0, 1, "==")}, true, true}, {[]api.Ins{get, null, bin(2, 1, 0, "==")}, true, true}, {[]api.Ins{get, null, bin(2, 0, 1, "==")}, false, false}, {[]api.Ins{get, null, bin(2, 0, 1, "!=")}, true, false}, {[]api.Ins{get, null, bin(2, 0, 1, "!=")}, false, true}, {[]api.Ins{get, null, bin(2, 0, 1, "<")}, true, false},
+		{[]api.Ins{get, null, bin(2, 0, 1, "=="), {Op: api.OpSet, A: 3}}, true, false}, {[]api.Ins{get, null, bin(2, 0, 1, "=="), {Op: api.OpUn, D: 2}}, true, false}, {[]api.Ins{get, null, bin(2, 0, 1, "=="), {Op: api.OpMove, D: 4, A: 2, N: 1}}, true, true}, {[]api.Ins{get, null, {Op: api.OpMove, D: 2, A: 0, N: 1}, bin(2, 2, 1, "==")}, true, false}, {[]api.Ins{get, {Op: api.OpMove, D: 1, A: 0, N: 1}, bin(2, 0, 1, "==")}, true, false}, {[]api.Ins{get, null, bin(2, 0, 3, "==")}, true, false}, {[]api.Ins{get, null, bin(2, 0, 1, "=="), {Op: api.OpUn, D: 0}}, true, true},
+	} {
+		n := len(c.list)
+		list := append(c.list, api.Ins{Op: api.OpIf, A: 2, To: n + 3})
+		look := []api.Ins{get, {Op: api.OpDeref, A: 0}}
+		if !c.holds {
+			look = []api.Ins{{Op: api.OpNop}, {Op: api.OpRet}}
+		}
+		list = append(list, look...)
+		if c.holds {
+			list = append(list, api.Ins{Op: api.OpRet})
+			list[n].To = n + 3
+		} else {
+			list = append(list, get, api.Ins{Op: api.OpDeref, A: 0}, api.Ins{Op: api.OpRet})
+		}
+		p := api.Proc{Vars: []api.Local{{Type: pointer}}, Regs: 6, Stmts: make([]api.Stmt, 1), Code: list}
+		got, _, e := Derefs(types, p, flow.Of(p), nil, solve.Budget(99))
+		if e != api.OK || (len(got) > 0) != c.isNil {
+			t.Error(k, got, e)
+		}
 	}
 }

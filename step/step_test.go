@@ -243,3 +243,18 @@ func TestSize(t *testing.T) {
 		}
 	}
 }
+
+// P17.1: values, and the program's own panics.
+func TestValues(t *testing.T) {
+	for body, want := range map[string]string{
+		"s := \"abc\"; print(len(s), len([]int{1, 2}), s < \"abd\", s >= \"abd\", s + \"d\" == \"abcd\")": "1:0:3 2 true false true", "x, y := 7, -2; print(x + y, x - y, x * y, x / y, x % y, x < y, x <= y, x > y, x >= y, x == y, x != y, -x)": "1:0:5 9 -14 -3 1 false false true true false true -7",
+		"x := 0; print(1 % x)": "5:0:division by zero", "x := 0; print(1 / x)": "5:0:division by zero", "var p *int; *p = 1": "5:0:nil dereference", "var s []int; print(s[0])": "5:0:index out of range", "s := []int{1}; i := -1; s[i] = 1": "5:0:index out of range", "var a [2]int; i := 2; a[i] = 1": "5:0:index out of range", "var f func(); f()": "5:0:nil func", "var f func(); go f()": "5:0:nil func", "panic(nil)": "5:0:panic with nil", "n := -1; c := make(chan int, n); close(c)": "5:0:length out of range",
+		"p, q := new(int), new(int); r := p; print(p == q, p == r, p != nil)": "1:0:false true true", "c, d := make(chan int), make(chan int); print(c == d, c == c, c != nil)": "1:0:false true true", "ok := true; print(!ok, ok == true, ok != false)": "1:0:false true true", "s := append([]int{1, 2, 3}, 4); u := append(s, 5); v := append(s, 6); print(u[4], v[4], len(s))": "1:0:6 6 4", "s := []int{1}; s[0] = 5; u := append(s, 2); u[0] = 7; print(s[0], u[0])": "1:0:5 7", "var s []int; s = append(s, 1); s = append(s, 2); s = append(s, 3); u := append(s, 4); u[0] = 9; print(s[0])": "1:0:9",
+		"c := make(chan int, 2); c <- 1; c <- 2; close(c); print(<-c); print(<-c); print(<-c)": "2:1: 2:1: 4:1: 3:1: 1:0:1 3:1: 1:0:2 3:1: 1:0:0",
+	} {
+		m := New(build(t, "func main() { "+body+" }"))
+		if got := run(m, 0); !strings.HasPrefix(got, want+" 6:") {
+			t.Error(body, got)
+		}
+	}
+}
