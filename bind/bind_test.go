@@ -114,7 +114,7 @@ func TestFaults(t *testing.T) {
 	}{
 		{"var x ^y", api.ErrName}, {"var x ^_", api.ErrName}, {"var x ^y.T", api.ErrName}, {"var x q^.U", api.ErrName}, {"var x q^.t", api.ErrName}, {"var x ^q", api.ErrType}, {"var x q^.V", api.ErrType}, {"var x, y int; var z x^.T", api.ErrType}, {"func f() { }; var x ^f", api.ErrType}, {"var x ^any", api.ErrType}, {"var x ^nil", api.ErrType}, {"var x ^true", api.ErrType},
 		{"type G[a any] int; var x ^G", api.ErrType}, {"type G[a any] int; var x G^[int, int]", api.ErrType}, {"type G[a comparable] int; var x G^[[]int]", api.ErrType}, {"type G[a comparable] int; var x G[^1]", api.ErrType}, {"type T int; var x T^[int]", api.ErrType}, {"func f[a any]() { }; var x f^[int]", api.ErrType}, {"type G[a int] int; var x G^[int]", api.ErrType}, {"type G[a nope] int; var x G^[int]", api.ErrName}, {"var x ^nope[int]", api.ErrName}, {"type G[a any] nope; var x G^[int]", api.ErrName},
-		{"var n int; var x ^[n]int", api.ErrConst}, {"var x ^[-1]int", api.ErrConst}, {"var x ^[1025]int", api.ErrConst}, {"var x ^[\"a\"]int", api.ErrConst}, {"var x ^[18446744073709551616]int", api.ErrConst}, {"var x [^nope]int", api.ErrName}, {"var x [1 ^/ 0]int", api.ErrConst}, {"var x [1024]int", api.OK},
+		{"var n int; var x ^[n]int", api.ErrConst}, {"var x ^[-1]int", api.ErrConst}, {"var x ^[1025]int", api.ErrConst}, {"var x ^[\"a\"]int", api.ErrConst}, {"var x ^[18446744073709551616]int", api.ErrConst}, {"var x [^nope]int", api.ErrName}, {"var x [1 ^/ 0]int", api.ErrConst}, {"var x [1024]int", api.OK}, {"type E struct { }; type G[a any] struct { }; var x E; var y G[int]; var z struct { }; var w [0]E; var v [1024][1024]E", api.OK},
 		{"var x ^struct { a int; a bool }", api.ErrTwice}, {"var x struct { _ int; _ bool }", api.OK},
 		{"const a = ^nope", api.ErrName}, {"var x int; const a = 1 + ^x", api.ErrType}, {"const a = ^nil", api.ErrType}, {"const a = len^(\"a\")", api.ErrType}, {"const a = 1 ^+ \"b\"", api.ErrType}, {"const a = ^!1", api.ErrType}, {"type T int; type U int; const a = T(1) ^== U(1)", api.ErrType}, {"const a = int^(\"a\")", api.ErrType}, {"const a = int^(1, 2)", api.ErrType}, {"const a = 170141183460469231731687303715884105727 ^+ 1", api.ErrConst}, {"const a = ^170141183460469231731687303715884105728", api.ErrConst},
 		{"const a = int^(9223372036854775808)", api.ErrConst}, {"const a = int(9223372036854775807) ^+ 1", api.ErrConst}, {"const a = 1 ^% 0", api.ErrConst}, {"const a = ^func() { }", api.ErrType}, {"const a bool = ^1", api.ErrType}, {"const a int = ^9223372036854775808", api.ErrConst}, {"const a error = ^1", api.ErrType}, {"const a = error^(1)", api.ErrType}, {"const a = q^.c", api.ErrName}, {"const a = q^.V", api.ErrType},
@@ -209,7 +209,7 @@ func TestFuncs(t *testing.T) {
 
 // P10.2
 func TestForeign(t *testing.T) {
-	b := good(t, "import \"q\"; var x q.T", "q package q; type T int; var v int; var V int")
+	b := good(t, "import \"q\"; var x q.T", "q package q; type T int; var v int; var V int; var Ant, Zoo int")
 	tree := b.Suite().Tree
 	node := func(name string) int {
 		i, _ := tree.Add(api.Node{Kind: api.Select, Text: name, At: api.Pos{Line: 7}})
@@ -218,6 +218,11 @@ func TestForeign(t *testing.T) {
 	i, f := b.Foreign(1, node("V"))
 	if f.Err != api.OK || b.Suite().Scopes.Object(i).Name != "V" {
 		t.Error(i, f)
+	}
+	for _, name := range []string{"Ant", "Zoo"} {
+		if _, f := b.Foreign(1, node(name)); f.Err != api.OK {
+			t.Error(name, f)
+		}
 	}
 	for _, c := range []struct {
 		pkg  int

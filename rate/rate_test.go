@@ -17,13 +17,13 @@ import (
 
 const decls = `import "q"; type T struct { a int; b *T; c [3]bool }; type N int; type S []T; type W struct { x, y int };
 func (t *T) p(i int) int { return 1 }; func (t T) v() (int, string) { return 1, "" }; func (n N) m() N { return n };
-func g(i int, s string) bool { return true }; func g2() (int, error) { return 1, nil }; func g0() { }; func id[a any](x a) a { return x }; func pick[a any, b0 comparable](x []a, y func(b0) *a, z a) b0 { }; type L[a any] struct { v a; n *L[a] }; func val[a any](l *L[a]) a { return l.v }; func mk() [2]W { return [2]W{} }
+func g(i int, s string) bool { return true }; func g2() (int, error) { return 1, nil }; func g0() { }; func id[a any](x a) a { return x }; func pick[a any, b0 comparable](x []a, y func(b0) *a, z a) b0 { }; type L[a any] struct { v a; n *L[a] }; func val[a any](l *L[a]) a { return l.v }; func paren[t any](x (*t), y (func(t) []t)) t { return *x }; func mk() [2]W { return [2]W{} }
 var gx int; var gt T; const c5 = 5; const cn N = 3;`
 
 // begin makes a maker in a func with variables of all kinds; the value of its only assignment is looked at.
 func begin(t *testing.T, expr string) (*Maker, int) {
 	t.Helper()
-	params := "i, j int, s string, ok bool, e error, t T, pt *T, sl []int, ar [4]int, par *[4]int, ch chan W, fn func(int) (int, bool), n N, ss S, ptr *int, pp **T, ln *L[string], cw chan int"
+	params := "i, j int, s string, ok bool, e error, t T, pt *T, sl []int, ar [4]int, par *[4]int, ch chan W, fn func(int) (int, bool), n N, ss S, ptr *int, pp **T, ln *L[string], cw chan int, es []struct{}, ea [2]struct{}"
 	s, bad := gather.Files([]api.Source{{Pkg: "p", Name: "a", Data: "package p; " + decls + " func zz(" + params + ") { _ = " + expr + " }"}, {Pkg: "q", Name: "a", Data: "package q; var V int; func F(i int) int { return i }; const C = 1; type T int; func h() { }"}})
 	if bad.Err != api.OK {
 		t.Fatal(expr, bad)
@@ -86,7 +86,7 @@ func TestExpr(t *testing.T) {
 		"i": "var int", "t": "place p.T", "ar": "place [4]int", "gx": "place int", "gt": "place p.T", "q.V": "place int", "pt": "var *p.T", "T": "type p.T", "q.T": "type q.T", "[]int": "type []int", "*T": "type *p.T", "L[int]": "type p.L[int]", "(*T)": "type *p.T", "func(int)": "type func(int)", "print": "builtin ", "g": "func func(int, string) bool", "q.F": "func func(int) int", "id": "generic ", "id[int]": "func func(int) int", "L": "generic ",
 		"i + 2": "value int", "2 + i": "value int", "s + \"x\"": "value string", "i < j": "value bool", "i == 2": "value bool", "n * 2": "value p.N", "cn + n": "value p.N", "len(ar) + 1": "value int", "1 + len(ar)": "value int", "ok && i < 2": "value bool", "ok || false": "value bool", "true && ok": "value bool", "pt == nil": "value bool", "nil != sl": "value bool", "fn == nil": "value bool", "e == nil": "value bool", "e == e": "value bool", "ch == ch": "value bool", "g == nil": "value bool",
 		"-i": "value int", "!ok": "value bool", "&t": "value *p.T", "&t.a": "value *int", "&T{}": "value *p.T", "&(W{1, 2})": "value *p.W", "&ar[i]": "value *int", "&gx": "value *int", "*pt": "place p.T", "*ptr": "place int", "<-ch": "value p.W",
-		"t.a": "place int", "t.b.c": "place [3]bool", "pt.b": "place *p.T", "mk()[0]": "place p.W", "mk()[1].y": "place int", "W{1, 2}.y": "value int", "(<-ch).x": "value int", "t.c[2]": "place bool", "sl[0]": "place int", "par[3]": "place int", "ss[i].b": "place *p.T", "sl[n]": "place int", "(*pp).a": "place int", "gt.c[i]": "place bool", "ln.n.v": "place string",
+		"t.a": "place int", "t.b.c": "place [3]bool", "pt.b": "place *p.T", "mk()[0]": "place p.W", "mk()[1].y": "place int", "W{1, 2}.y": "value int", "(<-ch).x": "value int", "t.c[2]": "place bool", "sl[0]": "place int", "par[3]": "place int", "ss[i].b": "place *p.T", "sl[n]": "place int", "(*pp).a": "place int", "gt.c[i]": "place bool", "ln.n.v": "place string", "es[0]": "place struct{}", "ea[1]": "place struct{}", "paren(ptr, nil)": "value int", "append(es, es[0])": "value []struct{}", "make([]struct{}, 2)": "value []struct{}",
 		"pt.p": "method func(int) int", "t.p": "method func(int) int", "gt.p": "method func(int) int", "pt.v": "method func() (int, string)", "t.v": "method func() (int, string)", "cn.m": "method func() p.N", "n.m": "method func() p.N", "ss[0].p": "method func(int) int",
 		"T{}": "value p.T", "T{1, nil, [3]bool{true}}": "value p.T", "T{b: pt, a: 2}": "value p.T", "[3]W{W{1, 2}}": "value [3]p.W", "[]W{}": "value []p.W", "[]int{1, i}": "value []int", "S{}": "value p.S", "L[int]{v: 3}": "value p.L[int]", "struct{a int}{4}": "value struct{a int}", "[0]int{}": "value [0]int", "struct{}{}": "value struct{}",
 		"g(1, s)": "value bool", "g2()": "value (int, error)", "g0()": "none ", "fn(i)": "value (int, bool)", "t.v()": "value (int, string)", "pt.p(2)": "value int", "cn.m()": "value p.N", "q.F(1)": "value int", "N(i)": "value p.N", "S(ss)": "value p.S", "[]T(ss)": "value []p.T", "string(s)": "value string", "id(1)": "value int", "id(n)": "value p.N", "id(pt)": "value *p.T", "id[string](s)": "value string", "val(ln)": "value string", "id(\"x\")": "value string", "id(g)": "value func(int, string) bool",
@@ -191,7 +191,7 @@ func TestLoad(t *testing.T) {
 // P12.1: which variables are Heap.
 func TestHeap(t *testing.T) {
 	for expr, want := range map[string]string{
-		"1": "t ar", "&i": "i t ar", "&sl[j]": "j t sl ar", "pt.p(i)": "t pt ar", "(pt.p)(i)": "t pt ar", "ss[i].p(j)": "i t ar ss", "fn(i)": "t ar", "pt.b": "t ar", "func(s int) { n + i }": "i s t ar n", "func() { func(ok bool) { } }": "ok t ar", "&T{a: i}": "i t ar", "g(i, s) == ok": "t ar",
+		"1": "t ar ea", "&i": "i t ar ea", "&sl[j]": "j t sl ar ea", "pt.p(i)": "t pt ar ea", "(pt.p)(i)": "t pt ar ea", "ss[i].p(j)": "i t ar ss ea", "fn(i)": "t ar ea", "pt.b": "t ar ea", "func(s int) { n + i }": "i s t ar n ea", "func() { func(ok bool) { } }": "ok t ar ea", "&T{a: i}": "i t ar ea", "g(i, s) == ok": "t ar ea",
 	} {
 		m, _ := begin(t, expr)
 		got := []string{}

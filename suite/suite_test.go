@@ -196,3 +196,16 @@ func TestElse(t *testing.T) {
 		t.Error(Text(moved), bad)
 	}
 }
+
+// P29.1: keys that are too long are not handed on.
+func TestKeys(t *testing.T) {
+	for n, want := range map[int]int{1<<12 - 1: 1, 1 << 12: 1, 1<<12 + 1: 0} {
+		p, bad := whole.Build(files("p a package p; func "+strings.Repeat("f", n-2)+"() { for { } }"), false)
+		if bad.Err != api.OK {
+			t.Fatal(bad)
+		}
+		if _, told, e := Package(p, 0, false, nil, budget()); e != api.OK || len(told) != want {
+			t.Error(n, len(told), e)
+		}
+	}
+}
