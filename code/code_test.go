@@ -118,6 +118,7 @@ func TestBuilder(t *testing.T) {
 		t.Error("statements")
 	}
 	b.Mark(7)
+	b.Mark(2)
 	b.Mark(-1)
 	b.Mark(0)
 	b.Put(api.Ins{Op: api.OpPrint, Args: args, To: 9, Stmt: 77})

@@ -102,6 +102,10 @@ func TestErrors(t *testing.T) {
 	if _, ok := Plain(tree, proc, set); !ok {
 		t.Error("plain")
 	}
+	first := api.Proc{Vars: proc.Vars, Stmts: proc.Stmts, Code: proc.Code[set:]}
+	if _, ok := Plain(tree, first, 0); !ok {
+		t.Error("the first instruction")
+	}
 	wrong := []api.Proc{}
 	for _, change := range []func(q *api.Proc){func(q *api.Proc) { q.Code[set].N = -1 }, func(q *api.Proc) { q.Code[set].N = 99 }, func(q *api.Proc) { q.Code[set].Stmt = -1 }, func(q *api.Proc) { q.Code[set].Stmt = 99 }, func(q *api.Proc) { q.Stmts[0].Node = -4 }, func(q *api.Proc) { q.Code[set].Op = api.OpGet }, func(q *api.Proc) { q.Code = nil }, func(q *api.Proc) { q.Code[set].N = 1 }} {
 		q := proc

@@ -172,6 +172,26 @@ func TestMoves(t *testing.T) {
 	}
 }
 
+// P23.1: what is known of the func 0, of those that aren't, and of several Rets.
+func TestKnown(t *testing.T) {
+	types := kind.New()
+	ret := func(args ...int) api.Ins { return api.Ins{Op: api.OpRet, Args: args} }
+	call := func(n int) api.Ins { return api.Ins{Op: api.OpProc, D: 0, N: n, M: 2} }
+	for k, c := range []struct {
+		list []api.Ins
+		want []bool
+	}{
+		{[]api.Ins{call(0), ret(0, 1)}, []bool{true, false}}, {[]api.Ins{call(1), ret(0, 1)}, []bool{false, true}}, {[]api.Ins{call(2), ret(0, 1)}, []bool{false, false}}, {[]api.Ins{call(3), ret(0, 1)}, []bool{false, false}}, {[]api.Ins{call(-1), ret(0, 1)}, []bool{false, false}}, {[]api.Ins{call(0), {Op: api.OpDefer, A: -1}, ret(0, 1)}, []bool{false, false}},
+		{[]api.Ins{call(0), {Op: api.OpIf, A: 2, To: 4}, call(1), ret(0, 1), ret(0, 0)}, []bool{false, false}}, {[]api.Ins{call(0), {Op: api.OpIf, A: 2, To: 4}, call(0), ret(0, 1), call(0), ret(0, 0)}, []bool{true, false}}, {[]api.Ins{{Op: api.OpJump}}, nil}, {[]api.Ins{{Op: api.OpJump}, ret(0, 0)}, []bool{false, false}}, {[]api.Ins{ret()}, nil},
+	} {
+		p := api.Proc{Regs: 3, Stmts: make([]api.Stmt, 1), Code: c.list}
+		_, got, e := Derefs(types, p, flow.Of(p), Some{{true, false}, {false, true}, {false}}, solve.Budget(99))
+		if e != api.OK || !slices.Equal(got, c.want) {
+			t.Error(k, got, e)
+		}
+	}
+}
+
 // P23.1: what tests tell, by instructions.
 func TestTests(t *testing.T) {
 	types := kind.New()

@@ -121,6 +121,22 @@ func TestNever(t *testing.T) {
 	}
 }
 
+// P22.3: by instructions.
+func TestNone(t *testing.T) {
+	p := api.Proc{Stmts: make([]api.Stmt, 4), Code: []api.Ins{{Op: api.OpPut, Stmt: 0}, {Op: api.OpPut, Stmt: 1}, {Op: api.OpNop, Stmt: 2}, {Op: api.OpEnd, Stmt: 2}, {Op: api.OpPut, Stmt: 3}, {Op: api.OpPut, Stmt: 3}, {Op: api.OpPut, Stmt: -1}, {Op: api.OpPut, Stmt: 4}, {Op: api.OpPut, Stmt: -9}}}
+	for _, c := range []struct {
+		reached []bool
+		want    []int
+	}{{nil, []int{0, 1, 3}}, {[]bool{true}, []int{1, 3}}, {[]bool{false, true, true, true, false, true}, []int{0}}, {[]bool{true, true, false, false, true, false, true, true, true, true, true}, nil}} {
+		if got := Stmts(p, c.reached); !slices.Equal(got, c.want) {
+			t.Error(c.reached, got)
+		}
+	}
+	if got := Stmts(api.Proc{}, []bool{true}); len(got) != 0 {
+		t.Error(got)
+	}
+}
+
 // P22.4: no run is at what is told never to be come to.
 func TestRuns(t *testing.T) {
 	src := "func stop(n int) { for { if n > 3 { panic(failure(\"s\")) }; n++ } }; func f(n int) int { defer func() { recover() }(); if n == 2 { stop(n); print(9) }; switch { case true: return n; default: print(8) }; return 1 }; func main() { for i := range 4 { if false { print(7) }; print(f(i)) }; c := make(chan int); go func() { c <- 1; for { }; c <- 2 }(); select { case x := <-c: print(x) }; for { return }; print(6) }"
