@@ -202,10 +202,6 @@ func TestUse(t *testing.T) {
 				if i.Use == 0 || o.Name != "y" && o.Name != "gv" {
 					t.Error(i, o)
 				}
-			case api.OpMake:
-				if i.Use != 2 || i.Obj != q.Vars[i.N].Obj {
-					t.Error(i)
-				}
 			default:
 				if i.Use != 0 || i.Obj != 0 {
 					t.Error(i)

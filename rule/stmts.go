@@ -172,7 +172,7 @@ func (w *writer) declare(name, typ int) (int, api.Fault) {
 	}
 	number := w.Declare(o, typ, n.Text, n.At)
 	w.declared = append(w.declared, w.Scope)
-	w.put(api.Ins{Op: api.OpMake, N: number, Obj: o, Use: 2}, name)
+	w.put(api.Ins{Op: api.OpMake, N: number}, name)
 	return o, api.Fault{}
 }
 
