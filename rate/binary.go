@@ -78,7 +78,12 @@ func (m *Maker) logical(node int, n api.Node) (Operand, api.Fault) {
 	if bad.Err != api.OK {
 		return Operand{}, bad
 	}
-	left, _, bad := m.Load(x, 0, part.Kid(n, 0))
+	left := 0
+	// What doesn't stand for bool isn't taken, whatever its value: it is never put into a register.
+	isTruth := m.under(plain(x.Type)).Kind == api.BoolType
+	if isTruth {
+		left, _, bad = m.Load(x, 0, part.Kid(n, 0))
+	}
 	if bad.Err != api.OK {
 		return Operand{}, bad
 	}
@@ -98,7 +103,7 @@ func (m *Maker) logical(node int, n api.Node) (Operand, api.Fault) {
 		return Operand{}, bad
 	}
 	typ, ok := m.common(x, y)
-	if !ok || m.under(typ).Kind != api.BoolType {
+	if !ok || !isTruth || m.under(typ).Kind != api.BoolType {
 		return m.fail(api.ErrType, node)
 	}
 	right, _, bad := m.Load(y, typ, part.Kid(n, 1))
