@@ -18,20 +18,11 @@ func (w *writer) block(node int) api.Fault {
 	return w.inScope(node, func() api.Fault { return each(kids, w.stmt) })
 }
 
-// condition is the register of a truth.
-func (w *writer) condition(node int) (int, api.Fault) {
-	v, bad := w.load(node, 0)
-	if bad.Err == api.OK && w.under(v.typ).Kind != api.BoolType {
-		return 0, w.fault(api.ErrType, node)
-	}
-	return v.reg, bad
-}
-
 // unless goes on elsewhere, unless a node holds.
 func (w *writer) unless(node, to int) api.Fault {
-	reg, bad := w.condition(node)
+	v, bad := w.loadKind(node, api.BoolType)
 	if bad.Err == api.OK {
-		w.put(api.Ins{Op: api.OpIf, A: reg, To: to}, node)
+		w.put(api.Ins{Op: api.OpIf, A: v.reg, To: to}, node)
 	}
 	return bad
 }

@@ -101,6 +101,20 @@ func (w *writer) load(node, typ int) (got, api.Fault) {
 	return got{reg: reg, typ: typ}, bad
 }
 
+// loadKind is the value of a node, whose type stands for one of a kind: a bool, or a channel.
+func (w *writer) loadKind(node, want int) (got, api.Fault) {
+	x, bad := w.Expr(node)
+	if bad.Err != api.OK {
+		return got{}, bad
+	}
+	// That a type isn't taken is told ahead of a constant's value, which may be too great for any register.
+	if w.under(x.Type).Kind != want && !(want == api.BoolType && x.Type == kind.UBool) {
+		return got{}, w.fault(api.ErrType, node)
+	}
+	reg, typ, bad := w.Load(x, 0, node)
+	return got{reg: reg, typ: typ}, bad
+}
+
 // values is the values of nodes, as of types (0: their own): as many as types, or one call that answers as many.
 func (w *writer) values(list, types []int, node int) ([]got, api.Fault) {
 	if len(list) == 1 && len(types) > 1 {
