@@ -414,19 +414,16 @@ func (w *writer) alone(node int) api.Fault {
 
 // channel is the register of a node's channel, its elements' type, and how many scalars that has.
 func (w *writer) channel(node int) (int, int, int, api.Fault) {
-	v, bad := w.load(node, 0)
+	v, bad := w.loadKind(node, api.ChanType)
 	if bad.Err != api.OK {
 		return 0, 0, 0, bad
 	}
-	under := w.under(v.typ)
-	if under.Kind != api.ChanType {
-		return 0, 0, 0, w.fault(api.ErrType, node)
-	}
-	slots := w.slots(under.Elem)
+	elem := w.under(v.typ).Elem
+	slots := w.slots(elem)
 	if slots < 0 {
 		return 0, 0, 0, w.fault(api.ErrLimit, node)
 	}
-	return v.reg, under.Elem, slots, bad
+	return v.reg, elem, slots, bad
 }
 
 // sent is a Send, as an arm: the channel, and the value.
