@@ -154,5 +154,6 @@ func (b *Binder) Declared(at, node, number int) (api.Konst, int, api.Fault) {
 	if bad.Err != api.OK {
 		return api.Konst{}, 0, bad
 	}
-	return b.converted(b.node(values[number]), k, told)
+	// The expression alone is a constant without a fault: what fails is the const's own call of its type.
+	return b.converted(n, k, told)
 }
