@@ -117,11 +117,11 @@ func (b *Binder) structure(at int, n api.Node) (int, api.Fault) {
 	}
 	var names []string
 	for _, i := range b.kids(part.Kid(n, 0)) {
-		name := b.node(i).Text
-		if name != "_" && slices.Contains(names, name) {
-			return 0, fault(api.ErrTwice, n.At)
+		field := b.node(i)
+		if field.Text != "_" && slices.Contains(names, field.Text) {
+			return 0, fault(api.ErrTwice, field.At)
 		}
-		names = append(names, name)
+		names = append(names, field.Text)
 	}
 	return b.made(n, api.Type{Kind: api.StructType, Names: names, Types: types})
 }
