@@ -186,3 +186,49 @@ func TestBuilder(t *testing.T) {
 		t.Error(e)
 	}
 }
+
+// P11.3: what is wrong is told ahead of what is too much, wherever it stands.
+func TestBeyond(t *testing.T) {
+	for name, long := range map[string]func(b *Builder){
+		"registers": func(b *Builder) { b.Reg(api.MaxRegs + 1) },
+		"code": func(b *Builder) {
+			for range api.MaxNodes {
+				b.Put(api.Ins{Op: api.OpNop})
+			}
+		},
+	} {
+		for i, c := range []struct {
+			do   func(b *Builder, early, late int)
+			want api.Errno
+		}{
+			{func(b *Builder, early, late int) { b.Put(api.Ins{Op: api.OpRet}) }, api.ErrLong},
+			{func(b *Builder, early, late int) { b.Put(api.Ins{Op: api.OpNop}) }, api.ErrState},
+			{func(b *Builder, early, late int) { b.Put(api.Ins{Op: api.OpJump, To: early}) }, api.ErrLong},
+			{func(b *Builder, early, late int) { b.Put(api.Ins{Op: api.OpJump, To: late}) }, api.ErrState},
+			{func(b *Builder, early, late int) {
+				b.Put(api.Ins{Op: api.OpIf, To: late})
+				b.Put(api.Ins{Op: api.OpRet})
+			}, api.ErrState},
+			{func(b *Builder, early, late int) {
+				b.Put(api.Ins{Op: api.OpIf, To: late})
+				b.Mark(late)
+				b.Put(api.Ins{Op: api.OpRet})
+			}, api.ErrLong},
+			{func(b *Builder, early, late int) { b.Put(api.Ins{Op: api.OpJump, To: late}); b.Mark(late) }, api.ErrState},
+			{func(b *Builder, early, late int) {
+				b.Put(api.Ins{Op: api.OpSelect, Arms: []api.Arm{{Kind: api.ArmDefault, To: early}, {Kind: api.ArmDefault, To: late}}})
+			}, api.ErrState},
+			{func(b *Builder, early, late int) { b.Put(api.Ins{Op: api.OpJump, To: 99}) }, api.ErrState},
+		} {
+			b := New()
+			early, late := b.Label(), b.Label()
+			b.Mark(early)
+			b.Put(api.Ins{Op: api.OpNop})
+			long(b)
+			c.do(b, early, late)
+			if list, regs, stmts, e := b.Finish(); e != c.want || list != nil || regs != 0 || stmts != nil {
+				t.Error(name, i, e)
+			}
+		}
+	}
+}

@@ -73,17 +73,16 @@ func (m *Maker) append(args []int, node int) (Operand, api.Fault) {
 	if under.Kind != api.SliceType {
 		return m.fail(api.ErrType, node)
 	}
-	slots := m.types().Slots(under.Elem)
-	if slots < 0 {
-		return m.fail(api.ErrLimit, node)
-	}
-	i := api.Ins{Op: api.OpAppend, A: x.Reg, M: slots, T: under.Elem}
+	i := api.Ins{Op: api.OpAppend, A: x.Reg, T: under.Elem}
 	for _, a := range args[1:] {
 		reg, _, bad := m.as(a, under.Elem)
 		if bad.Err != api.OK {
 			return Operand{}, bad
 		}
 		i.Args = append(i.Args, reg)
+	}
+	if i.M = m.types().Slots(under.Elem); i.M < 0 {
+		return m.fail(api.ErrLimit, node)
 	}
 	return m.answer(i, x.Type, node), bad
 }
@@ -104,10 +103,6 @@ func (m *Maker) makeCall(args []int, node int) (Operand, api.Fault) {
 	if op == api.OpSlice && (under.Kind != api.SliceType || len(args) != 2) || len(args) > 2 {
 		return m.fail(api.ErrType, node)
 	}
-	slots := m.types().Slots(under.Elem)
-	if slots < 0 {
-		return m.fail(api.ErrLimit, node)
-	}
 	reg := 0
 	if len(args) == 2 {
 		reg, _, bad = m.as(args[1], kind.Int)
@@ -116,6 +111,10 @@ func (m *Maker) makeCall(args []int, node int) (Operand, api.Fault) {
 	}
 	if bad.Err != api.OK {
 		return Operand{}, bad
+	}
+	slots := m.types().Slots(under.Elem)
+	if slots < 0 {
+		return m.fail(api.ErrLimit, node)
 	}
 	return m.answer(api.Ins{Op: op, A: reg, M: slots, T: under.Elem}, typ, node), bad
 }

@@ -154,7 +154,8 @@ func (m *Maker) field(x Operand, node int) (Operand, api.Fault) {
 	offset := 0
 	for _, i := range m.under(x.Type).Types[:place] {
 		slots := m.types().Slots(i)
-		if slots < 0 {
+		// Behind a pointer there may stand a struct that has no Slots: code can't tell each place in it.
+		if slots < 0 || slots > api.MaxRegs-offset {
 			return m.fail(api.ErrLimit, node)
 		}
 		offset += slots

@@ -1,6 +1,8 @@
 package rate
 
 import (
+	"slices"
+
 	"lorgnette/api"
 	"lorgnette/part"
 )
@@ -85,7 +87,7 @@ func (m *Maker) structLit(typ int, under api.Type, list []int, node int) (Operan
 	}
 	for place, i := range under.Types {
 		if isSet[place] == 0 {
-			m.nothing(offsets[place], i, node)
+			m.nothing(offsets[place], Zeros(m.types(), i), node)
 		}
 	}
 	return value(typ, base), bad
@@ -100,10 +102,11 @@ func (m *Maker) into(to, node, typ int) api.Fault {
 	return bad
 }
 
-// nothing puts a type's nothing into registers.
-func (m *Maker) nothing(to, typ, node int) {
-	for k, v := range Zeros(m.types(), typ) {
-		m.put(api.Ins{Op: api.OpPut, D: to + k, V: v}, node)
+// nothing puts zero values into registers.
+func (m *Maker) nothing(to int, zeros []api.Value, node int) {
+	at := m.node(node).At
+	for k, v := range zeros {
+		m.Code.Put(api.Ins{Op: api.OpPut, D: to + k, V: v, At: at})
 	}
 }
 
@@ -114,18 +117,15 @@ func (m *Maker) elements(typ, elem, n int, list []int, node int) (int, api.Fault
 		return 0, m.fault(api.ErrLimit, node)
 	}
 	base := m.Code.Reg(n * slots)
-	for k := range n {
-		if k >= len(list) {
-			m.nothing(base+k*slots, elem, node)
-			continue
+	for k, i := range list {
+		if m.node(i).Kind == api.KeyVal {
+			return 0, m.fault(api.ErrType, i)
 		}
-		if m.node(list[k]).Kind == api.KeyVal {
-			return 0, m.fault(api.ErrType, list[k])
-		}
-		if bad := m.into(base+k*slots, list[k], elem); bad.Err != api.OK {
+		if bad := m.into(base+k*slots, i, elem); bad.Err != api.OK {
 			return 0, bad
 		}
 	}
+	m.nothing(base+len(list)*slots, slices.Repeat(Zeros(m.types(), elem), n-len(list)), node)
 	return base, api.Fault{}
 }
 
