@@ -125,7 +125,9 @@ func (m *Maker) elements(typ, elem, n int, list []int, node int) (int, api.Fault
 			return 0, bad
 		}
 	}
-	m.nothing(base+len(list)*slots, slices.Repeat(Zeros(m.types(), elem), n-len(list)), node)
+	if n > len(list) {
+		m.nothing(base+len(list)*slots, slices.Repeat(Zeros(m.types(), elem), n-len(list)), node)
+	}
 	return base, api.Fault{}
 }
 
