@@ -50,7 +50,7 @@ func (m *Machine) do(t int, c *call, i api.Ins, choice int) {
 		m.act(t, c, armOf(c, &i))
 		return
 	case api.OpSelect:
-		list := m.choices(t, &i)
+		list := (&watch{Machine: m}).choices(t, &i)
 		m.act(t, c, list[uint(choice)%uint(len(list))])
 		return
 	case api.OpCall, api.OpProc, api.OpGo, api.OpDefer:

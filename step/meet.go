@@ -1,6 +1,10 @@
 package step
 
-import "lorgnette/api"
+import (
+	"slices"
+
+	"lorgnette/api"
+)
 
 // armOf is a Send or a Recv as an arm, behind which its call goes on.
 func armOf(c *call, i *api.Ins) api.Arm {
@@ -10,39 +14,76 @@ func armOf(c *call, i *api.Ins) api.Arm {
 	return api.Arm{Kind: api.ArmRecv, A: i.A, B: i.D, N: i.N, To: c.pc + 1}
 }
 
-// waits is the first arm of a kind by which a goroutine is at a channel.
-func (m *Machine) waits(t, channel, kind int) (api.Arm, bool) {
+// armsAt is the arms at which a goroutine is: of a Send and a Recv that one.
+func (m *Machine) armsAt(t int) (*call, []api.Arm) {
 	c, i, ok := m.at(t)
 	if !ok {
-		return api.Arm{}, false
+		return c, nil
 	}
-	isAt := func(reg int) bool { return c.regs[reg].Kind == api.ValChan && c.regs[reg].N == channel }
 	switch i.Op {
 	case api.OpSend, api.OpRecv:
-		if (i.Op == api.OpSend) == (kind == api.ArmSend) && isAt(i.A) {
-			return armOf(c, i), true
-		}
+		return c, []api.Arm{armOf(c, i)}
 	case api.OpSelect:
-		for _, a := range i.Arms {
-			if a.Kind == kind && isAt(a.A) {
-				return a, true
-			}
-		}
+		return c, i.Arms
 	}
-	return api.Arm{}, false
+	return c, nil
 }
 
 // partner is the first goroutine, but t, that does the other part on a channel, and its first such arm.
-func (m *Machine) partner(t, channel, kind int) (int, api.Arm, bool) {
+func (m *Machine) partner(t int, s side) (int, api.Arm) {
 	for other := range m.threads {
 		if other == t {
 			continue
 		}
-		if a, ok := m.waits(other, channel, kind); ok {
-			return other, a, true
+		c, arms := m.armsAt(other)
+		for _, a := range arms {
+			if sideOf(c, a) == s {
+				return other, a
+			}
 		}
 	}
-	return 0, api.Arm{}, false
+	return 0, api.Arm{}
+}
+
+// side is one of both parts of what is done on a channel: who sends (a kind of arms), or who takes.
+type side struct {
+	channel int
+	kind    int
+}
+
+// sideOf is on which side an arm is of a goroutine's last call; none, if there is no channel.
+func sideOf(c *call, a api.Arm) side {
+	if a.Kind == api.ArmDefault || c.regs[a.A].Kind != api.ValChan {
+		return side{}
+	}
+	return side{channel: c.regs[a.A].N, kind: a.Kind}
+}
+
+// watch looks at a machine between two steps: who is on which side is seen once for all who ask.
+type watch struct {
+	*Machine
+	waiting map[side][]int // the goroutines that are there, two at most, as one may ask for another one
+}
+
+func (w *watch) look() {
+	w.waiting = map[side][]int{}
+	for t := range w.threads {
+		c, arms := w.armsAt(t)
+		for _, a := range arms {
+			s := sideOf(c, a)
+			if list := w.waiting[s]; len(list) < 2 && !slices.Contains(list, t) {
+				w.waiting[s] = append(list, t)
+			}
+		}
+	}
+}
+
+// hasOther tells whether another goroutine than t is on a side.
+func (w *watch) hasOther(t int, s side) bool {
+	if w.waiting == nil {
+		w.look()
+	}
+	return slices.ContainsFunc(w.waiting[s], func(other int) bool { return other != t })
 }
 
 // against is the other part of a send, of what takes.
@@ -54,28 +95,24 @@ func against(kind int) int {
 }
 
 // mayDo tells whether an arm that sends or takes may be done.
-func (m *Machine) mayDo(t int, a api.Arm) bool {
-	x := m.threads[t].top().regs[a.A]
+func (w *watch) mayDo(t int, a api.Arm) bool {
+	x := w.threads[t].top().regs[a.A]
 	if x.Kind != api.ValChan {
 		return false
 	}
-	if m.pipes.IsClosed(x.N) || a.Kind == api.ArmSend && !m.pipes.Full(x.N) || a.Kind == api.ArmRecv && !m.pipes.Empty(x.N) {
+	if w.pipes.IsClosed(x.N) || a.Kind == api.ArmSend && !w.pipes.Full(x.N) || a.Kind == api.ArmRecv && !w.pipes.Empty(x.N) {
 		return true
 	}
-	if m.pipes.Room(x.N) > 0 {
-		return false
-	}
-	_, _, ok := m.partner(t, x.N, against(a.Kind))
-	return ok
+	return w.pipes.Room(x.N) == 0 && w.hasOther(t, side{channel: x.N, kind: against(a.Kind)})
 }
 
 // choices is the arms of a Select that may be done: the default, if no other one may be.
-func (m *Machine) choices(t int, i *api.Ins) []api.Arm {
+func (w *watch) choices(t int, i *api.Ins) []api.Arm {
 	var list, other []api.Arm
 	for _, a := range i.Arms {
 		if a.Kind == api.ArmDefault {
 			other = append(other, a)
-		} else if m.mayDo(t, a) {
+		} else if w.mayDo(t, a) {
 			list = append(list, a)
 		}
 	}
@@ -83,6 +120,21 @@ func (m *Machine) choices(t int, i *api.Ins) []api.Arm {
 		return other
 	}
 	return list
+}
+
+// mayGo tells whether a goroutine may go on.
+func (w *watch) mayGo(t int) bool {
+	c, i, ok := w.at(t)
+	if c == nil || !ok {
+		return c != nil
+	}
+	switch i.Op {
+	case api.OpSend, api.OpRecv:
+		return w.mayDo(t, armOf(c, i))
+	case api.OpSelect:
+		return len(w.choices(t, i)) > 0
+	}
+	return true
 }
 
 // act does an arm that may be done.
@@ -129,7 +181,7 @@ func (m *Machine) receive(t int, c *call, a api.Arm, channel int) {
 
 // hand hands a value from one goroutine to another one, which goes on, too.
 func (m *Machine) hand(t int, c *call, a api.Arm, channel int) {
-	other, b, _ := m.partner(t, channel, against(a.Kind))
+	other, b := m.partner(t, side{channel: channel, kind: against(a.Kind)})
 	d := m.threads[other].top()
 	if a.Kind == api.ArmSend {
 		copy(d.regs[b.B:b.B+b.N], c.regs[a.B:a.B+a.N])
