@@ -292,3 +292,36 @@ func TestWrong(t *testing.T) {
 		t.Error(o, f)
 	}
 }
+
+// P10.2: beside a fault there is no type, no constant.
+func TestNone(t *testing.T) {
+	b := good(t, "type G[a any] struct { x a }; type C[a comparable] int; var v int; const k = 1; func g[a any]() { }")
+	at, tree := b.Suite().Files[0].Scope, b.Suite().Tree
+	top := func(text string) api.Node {
+		root, f := parse.Into(tree, 0, "package p; "+text)
+		if f.Err != api.OK {
+			t.Fatal(text, f)
+		}
+		return tree.Node(tree.Node(tree.Node(root).Kids[1]).Kids[0])
+	}
+	for text, e := range map[string]api.Errno{
+		"nope": api.ErrName, "any": api.ErrType, "v": api.ErrType, "*nope": api.ErrName, "[]nope": api.ErrName, "chan nope": api.ErrName, "(nope)": api.ErrName, "[v]int": api.ErrConst, "[nope]int": api.ErrName, "[3]nope": api.ErrName, "[2000]int": api.ErrConst, "struct { a int; a int }": api.ErrTwice, "struct { a nope }": api.ErrName, "func(nope)": api.ErrName, "func() nope": api.ErrName, "G[nope]": api.ErrName, "G[int, int]": api.ErrType, "G": api.ErrType, "nope[int]": api.ErrName, "v[int]": api.ErrType, "g[int]": api.ErrType, "C[[]int]": api.ErrType, "G[[1024][5]int]": api.ErrLimit, "func(" + strings.Repeat("int, ", 256) + ")": api.ErrLong, "v.x": api.ErrType, "nope.x": api.ErrName,
+	} {
+		if i, f := b.Type(at, top("var x " + text).Kids[1]); i != 0 || f.Err != e || f.At.Line != 1 {
+			t.Error(text, i, f)
+		}
+	}
+	for text, e := range map[string]api.Errno{
+		"nope": api.ErrName, "v": api.ErrType, "nil": api.ErrType, "-nope": api.ErrName, "!1": api.ErrType, "nope + 1": api.ErrName, "1 + nope": api.ErrName, "1 + true": api.ErrType, "1 / 0": api.ErrConst, "int(true)": api.ErrType, "nope(1)": api.ErrName, "int(nope)": api.ErrName, "int(1, 2)": api.ErrType, "int(9223372036854775808)": api.ErrConst, "int(9223372036854775807) + 1": api.ErrConst, "int(1) + bool(true)": api.ErrType, "(nope)": api.ErrName, "[]int{}": api.ErrType,
+	} {
+		if k, i, f := b.Const(at, tree.Node(top("var x = " + text).Kids[2]).Kids[0]); k != (api.Konst{}) || i != 0 || f.Err != e || f.At.Line != 1 {
+			t.Error(text, k, i, f)
+		}
+	}
+	for text, e := range map[string]api.Errno{"const x, y = 1": api.ErrType, "const x nope = 1": api.ErrName, "const x int = nope": api.ErrName, "const x bool = 1": api.ErrType, "const x = v": api.ErrType, "const x int = 9223372036854775808": api.ErrConst} {
+		n, _ := tree.Add(top(text))
+		if k, i, f := b.Declared(at, n, 0); k != (api.Konst{}) || i != 0 || f.Err != e {
+			t.Error(text, k, i, f)
+		}
+	}
+}
