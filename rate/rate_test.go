@@ -236,10 +236,30 @@ func TestLiterals(t *testing.T) {
 	if len(m.Globals.Literals) != 2 || m.Globals.Literals[1].Captures != 4 || m.Globals.Literals[0].Captures != 2 || last.Op != api.OpClosure || last.N != Literals+1 || len(last.Args) != 4 || strings.Join(names, " ") != "j i n s" || len(m.Captured()) != 0 {
 		t.Error(names, last, m.Globals.Literals)
 	}
+	m, node = begin(t, "func() { i + i; j + i; n + n }")
+	if _, bad := m.Expr(node); bad.Err != api.OK || len(m.Globals.Caught[node]) != 3 {
+		t.Error("twice", bad, m.Globals.Caught)
+	}
 	m, node = begin(t, "func() { }")
 	m.Body = nil
 	if _, bad := m.Expr(node); bad.Err != api.ErrState {
 		t.Error(bad)
+	}
+}
+
+// P12.2: what reads a part of a variable, or what a pointer leads to, names no object.
+func TestParts(t *testing.T) {
+	for expr, isWhole := range map[string]bool{"i": true, "gx": true, "t": true, "q.V": true, "pt.a": false, "t.a": false, "ar[i]": false, "sl[i]": false, "par[i]": false, "*ptr": false, "[2]int{}[i]": false, "gt.a": false} {
+		m, node := begin(t, expr)
+		x, bad := m.Expr(node)
+		if bad.Err == api.OK {
+			_, _, bad = m.Load(x, 0, node)
+		}
+		list := finish(t, m, expr)
+		last := list[len(list)-2]
+		if bad.Err != api.OK || (x.Obj != 0) != isWhole || last.Obj != x.Obj || (last.Use == 1) != isWhole {
+			t.Error(expr, x, last, bad)
+		}
 	}
 }
 

@@ -209,3 +209,37 @@ func TestKeys(t *testing.T) {
 		}
 	}
 }
+
+// P29.2: the ^ stands ahead of the place that is told.
+func TestPlaces(t *testing.T) {
+	head := "package p; type M struct { x int }; func (m *M) Lock() { }; func (m *M) Unlock() { }; type W struct { m M; k int }; func (w W) Val() int { return w.k }; func h(w W) { }; func g() W { return W{} }; "
+	for _, c := range []struct {
+		src  string
+		kind int
+	}{
+		{"func f(w, v W) { v = ^w }", api.FindTwin}, {"func f(w W) { h(^w) }", api.FindTwin}, {"func f(w W) W { return ^w }", api.FindTwin}, {"func f(w W, c chan W) { c <- ^w }", api.FindTwin}, {"func f(w *W) { h(^*w) }", api.FindTwin}, {"func f(l []W) { h(l^[0]) }", api.FindTwin}, {"func f(l []W) []W { return append^(l, g()) }", api.FindTwin}, {"func f(w W) int { return ^w.Val() }", api.FindTwin}, {"func f(w *W) M { return w^.m }", api.FindTwin},
+		{"func f(w *W) { w = nil; print(w^.k) }", api.FindNil}, {"func f(w *W) { w = nil; *w = g() }", 0}, {"func f(w *int) { w = nil; ^*w = 1 }", api.FindNil}, {"func f(a *[2]int) { a = nil; print(a^[1]) }", api.FindNil},
+		{"func f(x bool) { for { }; ^if x { } }", api.FindReach}, {"func f(x int) { return; x ^= 2 }", api.FindReach}, {"func f(x int) { return; { ^return } }", api.FindReach}, {"func f(x int) { for { return } }", 0}, {"func f(x int) { for { break } }", 0}, {"func f(x int) { for x = 0; ; x^++ { break } }", api.FindReach},
+	} {
+		col := strings.Index(head+c.src, "^") + 1
+		list, bad := Look(files("p a "+head+strings.Replace(c.src, "^", "", 1)), false, true, budget())
+		if bad.Err != api.OK {
+			t.Fatal(c.src, bad)
+		}
+		found := 0
+		for _, f := range list {
+			if f.Kind == c.kind {
+				found++
+				if f.Col != col || f.Line != 1 || f.Pkg != "p" || f.File != "a" {
+					t.Error(c.src, f, col)
+				}
+			}
+			if c.kind == 0 && f.Kind == api.FindReach {
+				t.Error(c.src, f)
+			}
+		}
+		if c.kind != 0 && found != 1 {
+			t.Error(c.src, list)
+		}
+	}
+}
