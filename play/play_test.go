@@ -27,6 +27,7 @@ func shown(r api.Result) string {
 // Programs, and what they show, whatever is picked.
 var programs = [][2]string{
 	{`func main() { }`, "exit 0|"},
+	{`type E struct { }; var ge, _ E; var gf = E{}; func f(e E, _ E, x int) (E, int) { return e, x }; func (e E) m() int { return 3 }; func (e *E) n(o E) E { return o }; func main() { x, k := f(ge, gf, 7); var y E; _ = y; y = x; p := new(E); ge = *p; ge = p.n(y); print(x.m(), p.m(), k); go f(y, y, 1); defer f(x, x, 2); func(e E) { ge = e }(y) }`, "print 3 3 7|exit 0|"},
 	{`type E struct { }; type T struct { e E; x int; f [0]int; y int }; func main() { t := T{x: 1, y: 2}; p := &t; c := make(chan E, 1); c <- t.e; print(t.x, p.y); <-c; e := E{}; l := []E{e, E{}}; l = append(l, e); for i, v := range l { t.e = v; print(i) }; print(len(l)) }`, "send 1|print 1 2|recv 1|print 0|print 1|print 2|print 3|exit 0|"},
 	{`func main() { a := [3]int{1}; s := []int{5}; b := [2]string{"x"}; print(a[0], a[1], a[2], s[0], b[0], b[1] == "", len(s)) }`, "print 1 0 0 5 x true 1|exit 0|"},
 	{`type T struct { a int; b string; c bool; d *T; e [2]int }; func main() { t := T{c: true}; u := T{}; v := [2]T{T{a: 4}}; print(t.a, t.b == "", t.c, t.d == nil, t.e[1], u.c, u.a, v[0].a, v[1].a, v[1].e[0]) }`, "print 0 true true true 0 false 0 4 0 0|exit 0|"},

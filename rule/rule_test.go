@@ -57,6 +57,11 @@ func good(t *testing.T, body string, old bool) (api.Proc, *bind.Binder, *rate.Gl
 		if !code.Good(p) {
 			t.Error(key, body)
 		}
+		for _, i := range p.Code {
+			if i.At.Line != 1 || i.At.Col < 1 {
+				t.Error(key, body, i)
+			}
+		}
 	}
 	return procs["p.f"], b, g
 }
@@ -91,7 +96,7 @@ func TestFaults(t *testing.T) {
 		{"ok ^+= ok", api.ErrType}, {"x += ^\"a\"", api.ErrType}, {"x, ok ^+= 1, 2", api.ErrType}, {"ok^++", api.ErrType}, {"a := \"s\"; a ^-= \"t\"", api.ErrType}, {"a := \"s\"; a^++", api.ErrType}, {"^_ += 1", api.ErrName},
 		{"^x", api.ErrType}, {"x ^+ 1", api.ErrType}, {"^1", api.ErrType}, {"-x", api.ErrType}, {"len^(a) }; var a [3]int; func z() { ", api.ErrType}, {"int^(1)", api.ErrType}, {"T^{}", api.ErrType}, {"^x <- 1", api.ErrType}, {"c <- ^\"a\"", api.ErrType}, {"go ^none", api.ErrType}, {"go print^(1)", api.ErrType}, {"defer int^(x)", api.ErrType},
 		{"^return", api.ErrType}, {"^return 1", api.ErrType}, {"return 1, ^2", api.ErrType}, {"^return three()", api.ErrType}, {"^return 1, nil, 2", api.ErrType}, {"^return none()", api.ErrType}, {"return ^\"a\", nil", api.ErrType},
-		{"if ^x { }", api.ErrType}, {"for ^1 { }", api.ErrType}, {"if ^9223372036854775808 { }", api.ErrType}, {"for ^9223372036854775808 { }", api.ErrType}, {"switch { case ^9223372036854775808: }", api.ErrType}, {"if ^nil { }", api.ErrType}, {"^9223372036854775808 <- 1", api.ErrType}, {"^3 <- 1", api.ErrType}, {"^<-9223372036854775808", api.ErrType}, {"select { case ^9223372036854775808 <- 1: }", api.ErrType}, {"select { case <-^9223372036854775808: }", api.ErrType}, {"select { case x = <-^9223372036854775808: }", api.ErrType}, {"select { case <-^nil: }", api.ErrType}, {"c <- ^9223372036854775808", api.ErrConst}, {"if ^bool { }", api.ErrType}, {"if ^print { }", api.ErrType}, {"for range ^9223372036854775808 { }", api.ErrConst}, {"switch ^9223372036854775808 { }", api.ErrConst}, {"if true { ^nope() }", api.ErrName}, {"if ok { ^nope() }", api.ErrName}, {"for i := range ^ok { }", api.ErrType}, {"for i, ^v := range 3 { }", api.ErrType}, {"for i := range none^() { }", api.ErrType}, {"for ok = range 3 { }", api.ErrType}, {"for ^1 := range 3 { }", api.ErrType}, {"for a, ^a := range s { }", api.ErrTwice}, {"for range ^c { }", api.ErrType}, {"for range ^\"a\" { }", api.ErrType}, {"for _, v := range g^() { }; return }; func g() [2]int { return [2]int{} }; func z() { ", api.ErrType}, {"for range ^nil { }", api.ErrType},
+		{"if ^x { }", api.ErrType}, {"x ^+= 1, 2", api.ErrType}, {"x, x ^+= 1", api.ErrType}, {"x, x ^-= 1, 2", api.ErrType}, {"for ^1 { }", api.ErrType}, {"if ^9223372036854775808 { }", api.ErrType}, {"for ^9223372036854775808 { }", api.ErrType}, {"switch { case ^9223372036854775808: }", api.ErrType}, {"if ^nil { }", api.ErrType}, {"^9223372036854775808 <- 1", api.ErrType}, {"^3 <- 1", api.ErrType}, {"^<-9223372036854775808", api.ErrType}, {"select { case ^9223372036854775808 <- 1: }", api.ErrType}, {"select { case <-^9223372036854775808: }", api.ErrType}, {"select { case x = <-^9223372036854775808: }", api.ErrType}, {"select { case <-^nil: }", api.ErrType}, {"c <- ^9223372036854775808", api.ErrConst}, {"if ^bool { }", api.ErrType}, {"if ^print { }", api.ErrType}, {"for range ^9223372036854775808 { }", api.ErrConst}, {"switch ^9223372036854775808 { }", api.ErrConst}, {"if true { ^nope() }", api.ErrName}, {"if ok { ^nope() }", api.ErrName}, {"for i := range ^ok { }", api.ErrType}, {"for i, ^v := range 3 { }", api.ErrType}, {"for i := range none^() { }", api.ErrType}, {"for ok = range 3 { }", api.ErrType}, {"for ^1 := range 3 { }", api.ErrType}, {"for a, ^a := range s { }", api.ErrTwice}, {"for range ^c { }", api.ErrType}, {"for range ^\"a\" { }", api.ErrType}, {"for _, v := range g^() { }; return }; func g() [2]int { return [2]int{} }; func z() { ", api.ErrType}, {"for range ^nil { }", api.ErrType},
 		{"switch ^s { }", api.ErrType}, {"switch ^(T{}) { }", api.ErrType}, {"switch x { case ^\"a\": }", api.ErrType}, {"switch { case ^x: }", api.ErrType}, {"switch { default: ^default: }", api.ErrTwice}, {"switch x { case 1: ^fallthrough }", api.ErrFlow}, {"switch x { case 1: ^fallthrough; x = 1; case 2: }", api.ErrFlow}, {"^fallthrough", api.ErrFlow}, {"switch x { case 1: if ok { ^fallthrough }; case 2: }", api.ErrFlow}, {"switch two^() { }", api.ErrType}, {"switch ^nil { }", api.ErrType},
 		{"select { case x ^= 1: }", api.ErrType}, {"select { case ^none(): }", api.ErrType}, {"select { case <-^x: }", api.ErrType}, {"select { default: ^default: }", api.ErrTwice}, {"select { case x, ok ^= <-c: }", api.ErrType}, {"select { case x ^+= <-c: }", api.ErrType}, {"select { case _ ^:= <-c: }", api.ErrTwice}, {"select { case ok = <-c: }", api.ErrType}, {"select { case c <- ^ok: }", api.ErrType}, {"select { case <-c: ^fallthrough; default: }", api.ErrFlow},
 		{"^break", api.ErrFlow}, {"^continue", api.ErrFlow}, {"switch { case ok: ^continue }", api.ErrFlow}, {"for { ^break L }", api.ErrFlow}, {"L: switch { case ok: ^continue L }", api.ErrFlow}, {"L: { ^break L }", api.ErrFlow}, {"L: for { func() { ^break L }() }", api.ErrFlow}, {"for { func() { ^continue }() }", api.ErrFlow}, {"L: x = 1; for { ^break L }", api.ErrFlow},
@@ -143,12 +148,58 @@ func TestInit(t *testing.T) {
 	if p, bad := rule.Init(nil, g, 0); bad.Err != api.ErrNil || p.Code != nil {
 		t.Error(bad)
 	}
-	if _, bad := rule.Func(nil, nil, bind.Func{}); bad.Err != api.ErrNil {
+	if _, bad := rule.Init(b, nil, 0); bad.Err != api.ErrNil {
 		t.Error(bad)
+	}
+	for _, b := range []*bind.Binder{nil, b} {
+		if _, bad := rule.Func(b, nil, bind.Func{}); bad.Err != api.ErrNil {
+			t.Error(bad)
+		}
+	}
+	if _, bad := rule.Func(nil, g, bind.Func{}); bad.Err != api.ErrNil {
+		t.Error(bad)
+	}
+	// Where a variable lies must be a place that code can tell.
+	for n, e := range map[int]api.Errno{16: api.OK, 17: api.ErrLimit} {
+		if _, _, _, bad := make1(t, "var "+strings.Repeat("_, ", 40)+"_ [1024][4]int; "+lots(n)+"var z int", false); bad.Err != e {
+			t.Error(n, bad)
+		}
 	}
 	for _, pkg := range []int{-1, 1} {
 		if _, bad := rule.Init(b, g, pkg); bad.Err != api.ErrArg {
 			t.Error(bad)
+		}
+	}
+}
+
+// lots is n variables of 4096 scalars each.
+func lots(n int) string {
+	s := ""
+	for i := range n {
+		s += "var a" + strconv.Itoa(i) + " [1024][4]int; "
+	}
+	return s
+}
+
+// P13.1: what nobody gets is dropped.
+func TestDrop(t *testing.T) {
+	for src, want := range map[string]int{
+		"var _ = 1": 1, "var _ int": 0, "var _, a = 1, 2": 1, "func f(x int) { _ = x }": 1, "func f(x int) { _, x = x, 1; (_) = x }": 2, "func f(x int) { var _, a = x, 2; _ = a }": 2, "func f(x int) { _, a := x, 2; x = a }": 1, "func g() (int, string) { return 1, \"\" }; var _, b = g()": 1, "func f(c chan int) { select { case _ = <-c: } }": 1, "func f(s []int) { for _, _ = range s { } }": 0,
+	} {
+		procs, _, _, bad := make1(t, src, false)
+		n := 0
+		for _, p := range procs {
+			for _, i := range p.Code {
+				if i.Op == api.OpDrop {
+					n++
+					if i.N != 1 {
+						t.Error(src, i)
+					}
+				}
+			}
+		}
+		if bad.Err != api.OK || n != want {
+			t.Error(src, bad, n)
 		}
 	}
 }
@@ -175,7 +226,7 @@ func TestFunc(t *testing.T) {
 	if got := ops(procs["p.f"]); got[0] != api.OpNop || got[1] != api.OpJump || procs["p.f"].Code[1].To != 0 {
 		t.Error(got)
 	}
-	if g := procs["p.g"]; g.Params != 2 || g.Vars[0].Name != "" || g.Key != "p.g" {
+	if g := procs["p.g"]; g.Params != 2 || g.Vars[0].Name != "" || g.Vars[0].Obj != 0 || g.Vars[1].Obj != 0 || b.Suite().Scopes.Object(m.Vars[1].Obj).Name != "x" || g.Key != "p.g" {
 		t.Error(g)
 	}
 	if l := procs["0"]; l.Pkg != 0 || len(l.Results) != 1 || l.Key != "" {

@@ -218,6 +218,7 @@ func TestPlaces(t *testing.T) {
 		kind int
 	}{
 		{"func f(w, v W) { v = ^w }", api.FindTwin}, {"func f(w W) { h(^w) }", api.FindTwin}, {"func f(w W) W { return ^w }", api.FindTwin}, {"func f(w W, c chan W) { c <- ^w }", api.FindTwin}, {"func f(w *W) { h(^*w) }", api.FindTwin}, {"func f(l []W) { h(l^[0]) }", api.FindTwin}, {"func f(l []W) []W { return append^(l, g()) }", api.FindTwin}, {"func f(w W) int { return ^w.Val() }", api.FindTwin}, {"func f(w *W) M { return w^.m }", api.FindTwin},
+		{"func f() { ^for w := g(); w.k < 2; w.k++ { go func() { w.k = 1 }() } }", api.FindTwin},
 		{"func f(w *W) { w = nil; print(w^.k) }", api.FindNil}, {"func f(w *W) { w = nil; *w = g() }", 0}, {"func f(w *int) { w = nil; ^*w = 1 }", api.FindNil}, {"func f(a *[2]int) { a = nil; print(a^[1]) }", api.FindNil},
 		{"func f(x bool) { for { }; ^if x { } }", api.FindReach}, {"func f(x int) { return; x ^= 2 }", api.FindReach}, {"func f(x int) { return; { ^return } }", api.FindReach}, {"func f(x int) { for { return } }", 0}, {"func f(x int) { for { break } }", 0}, {"func f(x int) { for x = 0; ; x^++ { break } }", api.FindReach},
 	} {
