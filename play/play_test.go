@@ -27,6 +27,9 @@ func shown(r api.Result) string {
 // Programs, and what they show, whatever is picked.
 var programs = [][2]string{
 	{`func main() { }`, "exit 0|"},
+	{`func f(x int) string { if x == 1 { return "a" } else if x == 2 { return "b" } else if y := x + 1; y == 4 { return "c" } else { return "d" } }; func main() { print(f(1), f(2), f(3), f(4)) }`, "print a b c d|exit 0|"},
+	{`func main() { for i := range 4 { switch { case i == 1: continue; case i == 3: break }; print(i) }; for i := 0; ; i++ { for { break }; if i == 1 { continue }; if i > 2 { break }; print("o", i) }; c := make(chan int, 1); for i := range 3 { select { case c <- i: continue; default: break }; print("s", i) } }`, "print 0|print 2|print 3|print o 0|print o 2|send 1|print s 1|print s 2|exit 0|"},
+	{`func main() { x := 0; goto B; A: x += 1; goto C; B: x += 10; goto A; C: print(x) }`, "print 11|exit 0|"},
 	{`type E struct { }; var ge, _ E; var gf = E{}; func f(e E, _ E, x int) (E, int) { return e, x }; func (e E) m() int { return 3 }; func (e *E) n(o E) E { return o }; func main() { x, k := f(ge, gf, 7); var y E; _ = y; y = x; p := new(E); ge = *p; ge = p.n(y); print(x.m(), p.m(), k); go f(y, y, 1); defer f(x, x, 2); func(e E) { ge = e }(y) }`, "print 3 3 7|exit 0|"},
 	{`type E struct { }; type T struct { e E; x int; f [0]int; y int }; func main() { t := T{x: 1, y: 2}; p := &t; c := make(chan E, 1); c <- t.e; print(t.x, p.y); <-c; e := E{}; l := []E{e, E{}}; l = append(l, e); for i, v := range l { t.e = v; print(i) }; print(len(l)) }`, "send 1|print 1 2|recv 1|print 0|print 1|print 2|print 3|exit 0|"},
 	{`func main() { a := [3]int{1}; s := []int{5}; b := [2]string{"x"}; print(a[0], a[1], a[2], s[0], b[0], b[1] == "", len(s)) }`, "print 1 0 0 5 x true 1|exit 0|"},
