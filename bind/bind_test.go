@@ -75,9 +75,9 @@ func TestTypes(t *testing.T) {
 
 // P10.2
 func TestConsts(t *testing.T) {
-	b := good(t, `import "q"; const a, b = c + 1, "x" + "y"; const c = 5; type T int; const d T = c * 2; const e = T(3) % 2; const f = d > 1 && !(e == 0); const g bool = true; const h = q.C; const i = string("z"); const j = 170141183460469231731687303715884105727 / 1000000000000000000000000000000; const k = -c; const l, _ = "a" < "b", 0`, "q package q; const C = 7")
+	b := good(t, `import "q"; const a, b = c + 1, "x" + "y"; const c = 5; type T int; const d T = c * 2; const e = T(3) % 2; const f = d > 1 && !(e == 0); const g bool = true; const h = q.C; const i = string("z"); const j = 170141183460469231731687303715884105727 / 1000000000000000000000000000000; const k = -c; const l, _ = "a" < "b", 0; type S string; const m = S("a") + "b"; const n = "b" + S("a"); const o = 2 * T(3); type B bool; const p = true && B(true); const r = B(false) || true; const s = T(1) == 1; const u S = S("x")`, "q package q; const C = 7")
 	types := b.Types()
-	for name, want := range map[string]string{"a": "6 untyped int", "b": "xy untyped string", "c": "5 untyped int", "d": "10 p.T", "e": "1 p.T", "f": "true untyped bool", "g": "true bool", "h": "7 untyped int", "i": "z string", "j": "170141183 untyped int", "k": "-5 untyped int", "l": "true untyped bool"} {
+	for name, want := range map[string]string{"a": "6 untyped int", "b": "xy untyped string", "c": "5 untyped int", "d": "10 p.T", "e": "1 p.T", "f": "true untyped bool", "g": "true bool", "h": "7 untyped int", "i": "z string", "j": "170141183 untyped int", "k": "-5 untyped int", "l": "true untyped bool", "m": "ab p.S", "n": "ba p.S", "o": "6 p.T", "p": "true p.B", "r": "true p.B", "s": "true untyped bool", "u": "x p.S"} {
 		_, o := object(t, b, name)
 		s := ""
 		switch o.Const.Kind {

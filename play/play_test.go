@@ -27,6 +27,7 @@ func shown(r api.Result) string {
 // Programs, and what they show, whatever is picked.
 var programs = [][2]string{
 	{`func main() { }`, "exit 0|"},
+	{`func f(c, d chan int) { for i := range 3 { select { case x := <-c: print(i, x); case d <- i: y := <-d; print(i, y) } } }; func main() { c := make(chan int, 9); c <- 0; c <- 0; c <- 5; f(c, nil) }`, "send 1|send 1|send 1|recv 1|print 0 0|recv 1|print 1 0|recv 1|print 2 5|exit 0|"},
 	{`func f(x int) string { if x == 1 { return "a" } else if x == 2 { return "b" } else if y := x + 1; y == 4 { return "c" } else { return "d" } }; func main() { print(f(1), f(2), f(3), f(4)) }`, "print a b c d|exit 0|"},
 	{`func main() { for i := range 4 { switch { case i == 1: continue; case i == 3: break }; print(i) }; for i := 0; ; i++ { for { break }; if i == 1 { continue }; if i > 2 { break }; print("o", i) }; c := make(chan int, 1); for i := range 3 { select { case c <- i: continue; default: break }; print("s", i) } }`, "print 0|print 2|print 3|print o 0|print o 2|send 1|print s 1|print s 2|exit 0|"},
 	{`func main() { x := 0; goto B; A: x += 1; goto C; B: x += 10; goto A; C: print(x) }`, "print 11|exit 0|"},

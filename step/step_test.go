@@ -213,6 +213,27 @@ func TestLimits(t *testing.T) {
 	}
 }
 
+// P17.1: registers of all calls, at the limit and one more.
+func TestLive(t *testing.T) {
+	make := func(inner, outer int) *whole.Program {
+		row := "_ = [1024]int{}; "
+		return build(t, "func f(n int) { "+strings.Repeat("_ = [1024][4]int{}; ", 7)+strings.Repeat(row, 3)+"_ = ["+strconv.Itoa(inner)+"]int{}; if n > 0 { f(n - 1) } }; func main() { _ = ["+strconv.Itoa(outer)+"]int{}; f(31) }")
+	}
+	p := make(0, 0)
+	f, _ := p.Find("m.f")
+	inner := 32767 - p.Procs[f].Regs
+	outer := api.MaxLive - 32*32767 - p.Procs[p.Main].Regs
+	for more, want := range map[int]int{0: api.Finished, 1: api.Spent} {
+		m := New(make(inner, outer+more))
+		for n := 0; n < 10000000 && m.Status() == api.Running; n++ {
+			m.Step(0)
+		}
+		if m.Status() != want {
+			t.Error(more, m.Status())
+		}
+	}
+}
+
 // P17.1
 func TestText(t *testing.T) {
 	for want, v := range map[string]api.Value{"-5": {Kind: api.ValInt, N: -5}, "true": {Kind: api.ValBool, N: 7}, "false": {Kind: api.ValBool}, "a\n": {Kind: api.ValText, S: "a\n"}, "e": {Kind: api.ValError, N: 3, S: "e"}, "nil": {}} {
