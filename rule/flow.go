@@ -214,12 +214,16 @@ type over struct {
 	array int // its length; none of a slice
 }
 
-func (w *writer) over(node int) (over, api.Fault) {
+// over reckons what a Range goes over; second is the one for what stands there: with numbers there is none.
+func (w *writer) over(node, second int) (over, api.Fault) {
 	x, bad := w.Expr(node)
 	if bad.Err != api.OK {
 		return over{}, bad
 	}
 	under := w.under(x.Type)
+	if second != 0 && x.Mode != rate.Type && (under.Kind == api.IntType || x.Type == kind.UInt) {
+		return over{}, w.fault(api.ErrType, second)
+	}
 	if under.Kind == api.ArrayType && x.Mode == rate.Place {
 		return over{reg: x.Reg, times: w.number(under.Len, node), first: kind.Int, elem: under.Elem, array: under.Len}, bad
 	}
@@ -240,12 +244,9 @@ func (w *writer) over(node int) (over, api.Fault) {
 
 func (w *writer) ranged(node int, n api.Node, name string) api.Fault {
 	return w.inScope(node, func() api.Fault {
-		x, bad := w.over(part.Kid(n, 2))
+		x, bad := w.over(part.Kid(n, 2), part.Kid(n, 1))
 		if bad.Err != api.OK {
 			return bad
-		}
-		if part.Kid(n, 1) != 0 && x.elem == 0 {
-			return w.fault(api.ErrType, part.Kid(n, 1))
 		}
 		ahead := len(w.Vars)
 		if w.Globals.Old {
