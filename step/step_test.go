@@ -195,10 +195,12 @@ func TestLimits(t *testing.T) {
 		"func f(n int) { if n > 0 { f(n - 1) } }; func main() { f(254) }": api.Finished, "func f(n int) { if n > 0 { f(n - 1) } }; func main() { f(255) }": api.Spent,
 		"func f() { select { } }; func main() { for range 255 { go f() } }": api.Finished, "func f() { select { } }; func main() { for range 256 { go f() } }": api.Spent,
 		"func main() { s := make([]int, 4096); print(len(s)) }": api.Finished, "func main() { n := 4097; s := make([]int, n); print(len(s)) }": api.Panicked, "func main() { s := make([]int, 4096); s = append(s, 1); print(len(s)) }": api.Panicked, "func main() { s := make([][1024]int, 64); print(len(s)) }": api.Finished, "func main() { s := make([][1024]int, 65); print(len(s)) }": api.Spent,
-		"func main() { s := \"x\"; for range 16 { s += s }; print(len(s)) }": api.Finished, "func main() { s := \"x\"; for range 17 { s += s } }": api.Spent, "func main() { c := make(chan int, 1024); print(c == nil) }": api.Finished,
+		"func main() { s := \"x\"; for range 16 { s += s }; print(len(s)) }": api.Finished, "func main() { s := \"x\"; for range 17 { s += s } }": api.Spent, "func main() { c := make(chan int, 1024); print(c == nil) }": api.Finished, "func main() { for range 65536 { _ = make(chan int) } }": api.Finished, "func main() { for range 65537 { _ = make(chan int) } }": api.Spent, "func main() { for range 65536 { _ = new(int) } }": api.Finished, "func main() { for range 65537 { _ = new(int) } }": api.Spent,
 	} {
 		m := New(build(t, src))
-		run(m, 0)
+		for n := 0; n < 2000000 && m.Status() == api.Running; n++ {
+			m.Step(0)
+		}
 		if m.Status() != want {
 			t.Error(src, m.Status())
 		}
@@ -271,6 +273,7 @@ func TestValues(t *testing.T) {
 		"s := \"abc\"; print(len(s), len([]int{1, 2}), s < \"abd\", s >= \"abd\", s + \"d\" == \"abcd\")": "1:0:3 2 true false true", "x, y := 7, -2; print(x + y, x - y, x * y, x / y, x % y, x < y, x <= y, x > y, x >= y, x == y, x != y, -x)": "1:0:5 9 -14 -3 1 false false true true false true -7",
 		"x := 0; print(1 % x)": "5:0:division by zero", "x := 0; print(1 / x)": "5:0:division by zero", "var p *int; *p = 1": "5:0:nil dereference", "var s []int; print(s[0])": "5:0:index out of range", "s := []int{1}; i := -1; s[i] = 1": "5:0:index out of range", "var a [2]int; i := 2; a[i] = 1": "5:0:index out of range", "var f func(); f()": "5:0:nil func", "var f func(); go f()": "5:0:nil func", "panic(nil)": "5:0:panic with nil", "n := -1; c := make(chan int, n); close(c)": "5:0:length out of range",
 		"p, q := new(int), new(int); r := p; print(p == q, p == r, p != nil)": "1:0:false true true", "c, d := make(chan int), make(chan int); print(c == d, c == c, c != nil)": "1:0:false true true", "ok := true; print(!ok, ok == true, ok != false)": "1:0:false true true", "s := append([]int{1, 2, 3}, 4); u := append(s, 5); v := append(s, 6); print(u[4], v[4], len(s))": "1:0:6 6 4", "s := []int{1}; s[0] = 5; u := append(s, 2); u[0] = 7; print(s[0], u[0])": "1:0:5 7", "var s []int; s = append(s, 1); s = append(s, 2); s = append(s, 3); u := append(s, 4); u[0] = 9; print(s[0])": "1:0:9",
+		"s, u := \"a\", \"b\"; print(s == u, s != u, s == \"a\", s < s, s <= s, s > s, s >= s, s < u, u < s, s + \"\" == s)": "1:0:false true true false true false true true false true", "e, f := failure(\"a\"), failure(\"a\"); g := e; print(e == f, e == g, e != nil, f == nil)": "1:0:false true true false", "s := append([]int{4, 5}); var n []int; m := append(n); print(len(s), s[1], len(m), m == nil)": "1:0:2 5 0 true", "s := append(make([]int, 4095), 7); print(len(s), s[4095])": "1:0:4096 7",
 		"c := make(chan int, 2); c <- 1; c <- 2; close(c); print(<-c); print(<-c); print(<-c)": "2:1: 2:1: 4:1: 3:1: 1:0:1 3:1: 1:0:2 3:1: 1:0:0",
 	} {
 		m := New(build(t, "func main() { "+body+" }"))
