@@ -60,6 +60,15 @@ func TestOf(t *testing.T) {
 		}
 	}
 	x.At(11 + 4).Types[0] = 4
+	x.At(11 + 4).Names[0] = "y"
+	x.At(19).Results[0] = 4
+	other := New()
+	args := []int{1, 2}
+	k, _ := other.Name("p", "G", args...)
+	other.At(k).Args[0], args[1] = 4, 4
+	if !slices.Equal(other.At(k).Args, []int{1, 2}) || x.At(15).Names[0] != "_" || x.At(19).Results[0] != 2 {
+		t.Error("shared", other.At(k), x.At(15), x.At(19))
+	}
 	good[6].Names[1] = "z"
 	if x.At(15).Types[0] != 1 || x.At(15).Names[1] != "a" {
 		t.Error("shared")
@@ -67,7 +76,7 @@ func TestOf(t *testing.T) {
 	for _, y := range []api.Type{{}, {Kind: api.IntType}, {Kind: api.NilType}, {Kind: api.NamedType}, {Kind: api.NamedType, Name: "x"}, {Kind: 99}, {Kind: -1}, {Kind: api.PointerType}, {Kind: api.PointerType, Elem: 5}, {Kind: api.PointerType, Elem: 8}, {Kind: api.PointerType, Elem: 24}, {Kind: api.PointerType, Elem: -1},
 		{Kind: api.PointerType, Elem: 1, Len: 1}, {Kind: api.PointerType, Elem: 1, Names: []string{"a"}}, {Kind: api.PointerType, Elem: 1, Types: []int{1}}, {Kind: api.SliceType, Elem: 1, Results: []int{1}}, {Kind: api.ChanType, Elem: 1, Name: "a"}, {Kind: api.ChanType, Elem: 1, Pkg: "a"}, {Kind: api.SliceType, Elem: 1, Args: []int{1}},
 		{Kind: api.ArrayType, Elem: 1, Len: -1}, {Kind: api.ArrayType, Elem: 1, Len: 1025}, {Kind: api.ArrayType, Len: 1},
-		{Kind: api.StructType, Names: []string{"a"}}, {Kind: api.StructType, Types: []int{1}}, {Kind: api.StructType, Names: []string{"a", "a"}, Types: []int{1, 2}}, {Kind: api.StructType, Elem: 1}, {Kind: api.StructType, Names: []string{"a"}, Types: []int{5}}, {Kind: api.StructType, Results: []int{1}},
+		{Kind: api.StructType, Names: []string{"a"}}, {Kind: api.StructType, Types: []int{1}}, {Kind: api.StructType, Names: []string{"a", "a"}, Types: []int{1, 2}}, {Kind: api.StructType, Names: []string{"a", "b", "a"}, Types: []int{1, 2, 3}}, {Kind: api.StructType, Names: []string{"b", "a", "_", "b"}, Types: []int{1, 2, 3, 4}}, {Kind: api.StructType, Elem: 1}, {Kind: api.StructType, Names: []string{"a"}, Types: []int{5}}, {Kind: api.StructType, Results: []int{1}},
 		{Kind: api.FunctionType, Elem: 1}, {Kind: api.FunctionType, Types: []int{0}}, {Kind: api.FunctionType, Results: []int{6}}, {Kind: api.FunctionType, Types: []int{1}, Names: []string{"a"}}, {Kind: api.TupleType, Results: []int{1}}, {Kind: api.TupleType, Types: []int{5}}, {Kind: api.TupleType, Len: 2}} {
 		if i, e := x.Of(y); i != 0 || e != api.ErrArg {
 			t.Error(y, i, e)
@@ -223,7 +232,7 @@ func TestSlots(t *testing.T) {
 	if x.Slots(four) != api.MaxSlots || len(x.Scalars(four)) != api.MaxSlots {
 		t.Error(x.Slots(four))
 	}
-	for _, i := range []int{self, inner, five, none, undefined, of(t, x, api.Type{Kind: api.ArrayType, Elem: undefined}), Nil, UInt, UBool, UText, 0, -1, 999, of(t, x, api.Type{Kind: api.ArrayType, Elem: four, Len: 1024}), of(t, x, api.Type{Kind: api.TupleType, Types: []int{four, Int}})} {
+	for _, i := range []int{self, inner, five, none, undefined, of(t, x, api.Type{Kind: api.ArrayType, Elem: undefined}), Nil, UInt, UBool, UText, 0, -1, 999, of(t, x, api.Type{Kind: api.ArrayType, Elem: four, Len: 1024}), of(t, x, api.Type{Kind: api.TupleType, Types: []int{four, Int}}), of(t, x, api.Type{Kind: api.StructType, Names: []string{"a", "b"}, Types: []int{five, two}}), of(t, x, api.Type{Kind: api.StructType, Names: []string{"a", "b"}, Types: []int{two, five}})} {
 		if x.Slots(i) != -1 || len(x.Scalars(i)) != 0 {
 			t.Error(x.Text(i), x.Slots(i))
 		}
@@ -305,8 +314,11 @@ func TestKept(t *testing.T) {
 
 func TestNothing(t *testing.T) {
 	var x *Types
-	_, e := x.Of(api.Type{})
-	_, e2 := x.Name("", "", -1)
+	n, e := x.Of(api.Type{})
+	n2, e2 := x.Name("", "", -1)
+	if n != 0 || n2 != 0 {
+		t.Error(n, n2)
+	}
 	_, _, ok := x.Field(9, "a")
 	_, _, ok2 := x.Find(9, "a")
 	if e != api.ErrNil || e2 != api.ErrNil || x.Define(0, 0) != api.ErrNil || x.Method(0, "", true, 0) != api.ErrNil || ok || ok2 || x.Len() != 0 || x.At(1).Kind != 0 || x.Under(1) != 0 || x.Text(1) != "" || x.Slots(1) != 0 || x.Scalars(1) != nil || x.Kept(1) || x.Equal(1) || x.Nilable(1) || x.Takes(1, 1) {

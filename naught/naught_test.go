@@ -62,9 +62,9 @@ func TestDerefs(t *testing.T) {
 
 // P23.1: results, and what is known of others.
 func TestResults(t *testing.T) {
-	p := build(t, head+"func a() *T { return &T{} }; func b() (int, *T, *T) { p := new(T); return 1, p, nil }; func c(q *T) *T { if q == nil { return &T{} }; return q }; func d(q *T) *T { q.a = 1; return q }; func e() *T { defer use(nil); return &T{} }; func f() *T { for { } }; func g() *T { return a() }; func h(q *T) *T { return q }; func i() { }; func j() (*T, *T) { return two() }; func two() (*T, *T) { return gt, &T{} }; func k(ok bool) *T { if ok { return get() }; return nil }")
+	p := build(t, head+"func a() *T { return &T{} }; func b() (int, *T, *T) { p := new(T); return 1, p, nil }; func c(q *T) *T { if q == nil { return &T{} }; return q }; func d(q *T) *T { q.a = 1; return q }; func e() *T { defer use(nil); return &T{} }; func f() *T { for { } }; func g() *T { return a() }; func h(q *T) *T { return q }; func i() { }; func j() (*T, *T) { return two() }; func two() (*T, *T) { return gt, &T{} }; func l(ok bool) (*T, bool) { return &T{}, ok && use2(ok) }; func use2(ok bool) bool { return ok }; func k(ok bool) *T { if ok { return get() }; return nil }")
 	some := make(Some, len(p.Procs))
-	for name, want := range map[string][]bool{"a": {true}, "b": {false, true, false}, "c": {true}, "d": {true}, "e": {false}, "f": {false}, "g": {false}, "h": {false}, "i": {}, "j": {false, false}, "two": {false, true}, "k": {false}} {
+	for name, want := range map[string][]bool{"a": {true}, "b": {false, true, false}, "c": {true}, "d": {true}, "e": {false}, "f": {false}, "g": {false}, "h": {false}, "i": {}, "j": {false, false}, "two": {false, true}, "k": {false}, "l": {false, false}} {
 		k, _ := p.Find("m." + name)
 		if _, got := derefs(t, p, k, nil); !slices.Equal(got, want) {
 			t.Error(name, got)

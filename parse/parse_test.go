@@ -199,6 +199,15 @@ func TestLimits(t *testing.T) {
 	if root, f := Into(x, 2, "package p"); root != 0 || f.Err != api.ErrLong || f.At.File != 2 {
 		t.Error(root, f)
 	}
+	for s, e := range map[string]api.Errno{"#": api.ErrToken, "package": api.ErrSyntax, "package p; var x = " + strings.Repeat("(", 300): api.ErrDeep} {
+		y := tree.New()
+		if root, f := Into(y, 0, s); root != 0 || f.Err != e {
+			t.Error(s, root, f)
+		}
+		if z, root, f := File(0, s); z != nil || root != 0 || f.Err != e {
+			t.Error(s, root, f)
+		}
+	}
 	if root, f := Into(nil, 2, "#"); root != 0 || f != (api.Fault{Err: api.ErrNil}) {
 		t.Error(root, f)
 	}

@@ -76,6 +76,22 @@ func TestNode(t *testing.T) {
 			t.Error("no file")
 		}
 	}
+	z, top, _ := parse.File(0, "package p; import \"q\"; import \"r\"; var a int; func f(a, b int) { switch { case a: c; default: }; select { case <-c: default: }; _ = f(a, b) }")
+	for _, i := range z.Walk(top) {
+		want := map[int]string{api.Import: "import \"q\"\nimport \"r\"", api.Case: "case a:\n\tc\ndefault:", api.Comm: "case <-c:\ndefault:", api.Field: "a int, b int"}
+		if n := z.Node(i); n.Kind == api.List && len(n.Kids) > 1 {
+			if s, ok := want[z.Node(n.Kids[0]).Kind]; ok && Node(z, i) != s {
+				t.Errorf("%q", Node(z, i))
+			}
+		}
+	}
+	for n, isGood := range map[int]bool{95: true, 96: false} {
+		src := "package p\n\nvar x = " + strings.Repeat("(", n) + "1" + strings.Repeat(")", n) + "\n"
+		deep, top, f := parse.File(0, src)
+		if (f.Err == api.OK) != isGood || isGood && File(deep, top) != src {
+			t.Error(n, f)
+		}
+	}
 	if Node(x, root) != File(x, root) || Node(x, 0) != "" || Node(x, 9999) != "" || File(x, -1) != "" || Node(nil, 1) != "" || File(nil, 1) != "" {
 		t.Error("none")
 	}
