@@ -211,7 +211,8 @@ func TestLimits(t *testing.T) {
 	if root, f := Into(nil, 2, "#"); root != 0 || f != (api.Fault{Err: api.ErrNil}) {
 		t.Error(root, f)
 	}
-	if _, _, f := File(0, "package p; func f() {"+strings.Repeat("x=1;", 14000)+"}"); f.Err != api.ErrLong {
+	// Five nodes a statement, and five ahead of them: the limit is passed within a statement far ahead of the end.
+	if _, _, f := File(0, "package p; func f() {"+strings.Repeat("x=1;", 14000)+"}"); f.Err != api.ErrLong || f.At.Line != 1 || (f.At.Col-22)/4 != (api.MaxNodes-5)/5 {
 		t.Error(f)
 	}
 	many := strings.TrimSuffix(strings.Repeat("a,", 9000), ",")
