@@ -100,6 +100,10 @@ func TestGood(t *testing.T) {
 		if !Good(p) {
 			t.Error("good")
 		}
+		p.Regs = api.MaxRegs
+		if !Good(p) {
+			t.Error("all registers")
+		}
 		change(&p)
 		if Good(p) {
 			t.Error(p)

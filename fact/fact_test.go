@@ -90,3 +90,21 @@ func TestChanged(t *testing.T) {
 		}
 	}
 }
+
+// P28.1: as many facts as there may be, and one more.
+func TestMany(t *testing.T) {
+	var b strings.Builder
+	for k := range api.MaxNodes + 1 {
+		if k >= api.MaxNodes-1 {
+			s := b.String() + fmt.Sprintf("sum %016x\n", Sum(b.String()))
+			list, e := Decode(s)
+			if e != api.OK || len(list) != k {
+				t.Error(k, len(list), e)
+			}
+		}
+		fmt.Fprintf(&b, "\"%05d\" never -\n", k)
+	}
+	if list, e := Decode(b.String() + fmt.Sprintf("sum %016x\n", Sum(b.String()))); e != api.ErrForm || list != nil {
+		t.Error(len(list), e)
+	}
+}

@@ -185,3 +185,21 @@ func TestOrder(t *testing.T) {
 		}
 	}
 }
+
+// P9.1, P9.2: paths, and imports of several files, rising, each once.
+func TestPaths(t *testing.T) {
+	for _, c := range "azAZ09_-/" {
+		if _, f := Files([]api.Source{{Pkg: string(c), Name: "a", Data: "package p"}}); f.Err != api.OK {
+			t.Error(string(c), f)
+		}
+	}
+	for _, c := range "`{@[.:,^\x00 \u00e9" {
+		if _, f := Files([]api.Source{{Pkg: "p" + string(c), Name: "a", Data: "package p"}}); f != (api.Fault{Err: api.ErrName, At: api.Pos{Line: 1, Col: 1}}) {
+			t.Errorf("%q %v", c, f)
+		}
+	}
+	s, f := Files(files("p a package p; import \"s\"; import \"q\"", "p b package p; import \"r\"; import \"q\"", "q a package q", "r a package r", "s a package s"))
+	if f.Err != api.OK || !slices.Equal(s.Packages[0].Imports, []int{1, 2, 3}) || !slices.Equal(s.Order, []int{1, 2, 3, 0}) {
+		t.Error(f, s)
+	}
+}

@@ -192,6 +192,9 @@ func TestGood(t *testing.T) {
 	if facts, e := Solve(base(), nil); facts != nil || e != api.ErrArg {
 		t.Error(e)
 	}
+	if !Good(api.Problem{Tag: lattice.Set, N: api.MaxRegs, First: lattice.Top(lattice.Set, api.MaxRegs)}) {
+		t.Error("as many variables as there may be")
+	}
 	set := api.Problem{Next: [][]int{nil}, Acts: [][]api.Act{{{Kind: api.ActMeet, N: 0}}}, Edges: [][][]api.Act{nil}, Tag: lattice.Set, N: 1}
 	if !Good(set) {
 		t.Error("meet of Set")
@@ -247,5 +250,20 @@ func TestMeter(t *testing.T) {
 	wait.Wait()
 	if m.Used() != 20 || slices.Contains(p.Start, 1) {
 		t.Error(m.Used())
+	}
+}
+
+// P21.3: blocks that are joined are taken on once, if nothing goes back, however they are numbered.
+func TestForward(t *testing.T) {
+	for _, next := range [][][]int{{{1, 2}, {3}, {3}, nil}, {{3, 2}, nil, {1}, {2, 1}}, {{1, 3}, nil, {1}, {2, 1}}, {{4, 3, 2, 1}, nil, {1}, {2}, {3}}} {
+		n := len(next)
+		p := api.Problem{Next: next, Acts: make([][]api.Act, n), Edges: make([][][]api.Act, n), Start: []int{0}, Tag: lattice.Flat, N: 1, First: fact(lattice.Nil)}
+		for k := range p.Acts {
+			p.Acts[k] = []api.Act{{Kind: api.ActPut, V: 0, N: 1 + k%2}}
+		}
+		m := Budget(n)
+		if _, e := Solve(p, m); e != api.OK || m.Used() != n {
+			t.Error(next, e, m.Used())
+		}
 	}
 }
