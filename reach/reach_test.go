@@ -115,6 +115,10 @@ func TestNever(t *testing.T) {
 	if got := Never(nil, nil, []int{0}, []bool{true}); len(got) != 0 {
 		t.Error(got)
 	}
+	short := []api.Proc{{Code: []api.Ins{{Op: api.OpJump, Stmt: -1}}}, {Code: []api.Ins{{Op: api.OpSelect, Stmt: -1}}}, {Regs: 1, Code: []api.Ins{{Op: api.OpPanic, Stmt: -1}}}, {Code: []api.Ins{{Op: api.OpRet, Stmt: -1}}}, {Code: []api.Ins{{Op: api.OpProc, N: 0, Stmt: -1}, {Op: api.OpRet, Stmt: -1}}}}
+	if got := Never(short, flow.All(short), every(5), nil); !slices.Equal(got, []bool{true, true, true, false, true}) {
+		t.Error(got)
+	}
 	bad := []api.Proc{{}, {Code: []api.Ins{{Op: api.OpNop}}}}
 	if got := Never(bad, flow.All(bad), []int{0, 1}, []bool{false, false, true}); got[0] || got[1] || len(got) != 2 {
 		t.Error(got)
