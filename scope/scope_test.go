@@ -163,3 +163,14 @@ func TestNothing(t *testing.T) {
 		t.Error("nil")
 	}
 }
+
+// Of nil there are no numbers beside the error.
+func TestNil(t *testing.T) {
+	var s *Scopes
+	if n, e := s.Open(1); n != 0 || e != api.ErrNil {
+		t.Error(n, e)
+	}
+	if n, e := s.Put(1, api.Object{Kind: api.ObjVar, Name: "a"}); n != 0 || e != api.ErrNil {
+		t.Error(n, e)
+	}
+}
