@@ -98,3 +98,11 @@ func TestLimit(t *testing.T) {
 		t.Error("nil")
 	}
 }
+
+// Of nil there is no number beside the error.
+func TestNil(t *testing.T) {
+	var m *Memory
+	if n, e := m.Make(nil); n != 0 || e != api.ErrNil {
+		t.Error(n, e)
+	}
+}

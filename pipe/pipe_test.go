@@ -101,3 +101,11 @@ func TestOrder(t *testing.T) {
 		t.Error(in)
 	}
 }
+
+// Of nil there is no number beside the error.
+func TestNil(t *testing.T) {
+	var p *Pipes
+	if n, e := p.Make(1); n != 0 || e != api.ErrNil {
+		t.Error(n, e)
+	}
+}

@@ -170,3 +170,12 @@ func TestMore(t *testing.T) {
 		}
 	}
 }
+
+// P18.1: without a script the picks are 0.
+func TestNoScript(t *testing.T) {
+	p := build(t, `func main() { go print2(2); print(1) }; func print2(x int) { print(x) }`, false)
+	none, zero, one := Run(p, nil, 1000), Run(p, []int{0}, 1000), Run(p, []int{1}, 1000)
+	if !Same(none, zero) || Same(none, one) || shown(none) != "print 1|exit 0|" {
+		t.Error(shown(none), shown(zero), shown(one))
+	}
+}
